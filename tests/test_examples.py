@@ -1,0 +1,142 @@
+"""The examples of the interface, as the document shows them."""
+
+import unittest
+
+EXAMPLES = """
+>>> from pitlots.grounds import Ground, cover, levels, needers, renamed
+>>> ground = Ground(((), (), (0, 1), (1,)))
+>>> [ground.covers, len(ground), cover(ground, 2), needers(ground, 1), levels(ground), renamed(ground, (1, 3, 0, 2)).covers]
+[((), (), (0, 1), (1,)), 4, (0, 1), (2, 3), (0, 0, 1, 1), ((), (0,), (), (0, 2))]
+>>> Ground(((), (1,)))
+raises BadCovers(index=1)
+
+>>> from pitlots.chains import chain, shows_chain
+>>> from pitlots.grounds import Ground
+>>> ground = Ground(((), (0,), (0, 1)))
+>>> [chain(ground, 2, 0), chain(ground, 0, 2), chain(ground, 1, 1), shows_chain(ground, 2, 0, (2, 1, 0)), shows_chain(ground, 2, 0, (2, 0, 0))]
+[(2, 0), None, (1,), True, False]
+
+>>> from pitlots.grounds import Ground
+>>> from pitlots.pits import all_pits, greatest_pit, is_pit, last_blocks, least_pit, next_blocks
+>>> ground = Ground(((), (), (0, 1), (1,)))
+>>> [all_pits(ground), is_pit(ground, (0, 2))]
+[[(), (0,), (1,), (0, 1), (1, 3), (0, 1, 2), (0, 1, 3), (0, 1, 2, 3)], False]
+>>> [least_pit(ground, (2,)), greatest_pit(ground, (0,)), next_blocks(ground, (1,)), last_blocks(ground, (0, 1, 3))]
+[(0, 1, 2), (1, 3), [0, 3], [0, 3]]
+>>> next_blocks(ground, (3,))
+raises NotPit()
+
+>>> from pitlots.grounds import Ground
+>>> from pitlots.worths import all_best, best_worth, fates, greatest_best, least_best, with_block, without_block, worth_of
+>>> ground = Ground(((), (), (0, 1), (1,)))
+>>> [best_worth(ground, (-2, -3, 4, 2)), all_best(ground, (-2, -3, 4, 2)), worth_of(ground, (-2, -3, 4, 2), (0, 2))]
+[1, [(0, 1, 2, 3)], 2]
+>>> [all_best(ground, (-2, -3, 4, 1)), least_best(ground, (-2, -3, 4, 1)), greatest_best(ground, (-2, -3, 4, 1)), fates(ground, (2, -3, 1, 1))]
+[[(), (0, 1, 2, 3)], (), (0, 1, 2, 3), ('must', 'never', 'never', 'never')]
+>>> [with_block(ground, (-2, -3, 4, 2), 3), without_block(ground, (-2, -3, 4, 2), 3)]
+[1, 0]
+
+>>> from pitlots.grounds import Ground
+>>> from pitlots.payments import are_payments, payments, shows_best, shows_verdict, verdict
+>>> ground, worths = Ground(((), (), (0, 1), (1,))), (-2, -3, 4, 2)
+>>> [sum([many for one, other, many in payments(ground, worths)]), payments(ground, (-2, -1, 1, 0)) in [((2, 0, 1),), ((2, 1, 1),)]]
+[5, True]
+>>> [shows_best(ground, worths, (0, 1, 2, 3), ((2, 0, 2), (2, 1, 2), (3, 1, 1))), are_payments(ground, worths, ((3, 0, 1),)), verdict(ground, worths, ())]
+[True, False, ('better', (0, 1, 2, 3))]
+>>> [shows_verdict(ground, worths, (0, 1, 2, 3), verdict(ground, worths, (0, 1, 2, 3))), verdict(ground, (1, -1, 0, 0), (0,)), shows_verdict(ground, worths, (0,), ("better", ()))]
+[True, ('best', ()), True]
+
+>>> from pitlots.grounds import Ground
+>>> from pitlots.prices import best_at, dearest, price_for, worth_at
+>>> ground, gains, costs = Ground(((), (), (0, 1), (1,))), (0, 0, 2, 3), (6, 3, 1, 0)
+>>> [worth_at(ground, gains, costs, (2, 1), (0, 1, 2)), best_at(ground, gains, costs, (2, 1)), best_at(ground, gains, costs, (1, 1))]
+[(-6, 1), ((3, 1), (1, 3), (1, 3)), ((0, 1), (), (1, 3))]
+
+>>> from pitlots.grounds import Ground
+>>> from pitlots.prices import dearest, price_for
+>>> ground, gains, costs = Ground(((), (), (0, 1), (1,))), (0, 0, 2, 3), (6, 3, 1, 0)
+>>> [price_for(ground, gains, costs, 4), price_for(ground, (0, 0, 0, 0), costs, 1), dearest(ground, gains, costs, (2, 1), 1)]
+[(7, 3), None, 6]
+
+>>> from pitlots.grounds import Ground
+>>> from pitlots.ladders import ladder, layers, pits_by_year, rates
+>>> ground, gains, costs = Ground(((), (), (0, 1), (1,))), (0, 0, 2, 3), (6, 3, 1, 0)
+>>> [rates(ground, gains, costs), ladder(ground, gains, costs), layers(ground, gains, costs)]
+[((7, 2), (1, 1), (7, 2), (1, 1)), [((1, 1), (1, 3)), ((7, 2), (0, 1, 2, 3))], [((1, 1), (1, 3)), ((7, 2), (0, 2))]]
+
+>>> from pitlots.grounds import Ground
+>>> from pitlots.ladders import pits_by_year
+>>> ground, gains, costs = Ground(((), (), (0, 1), (1,))), (0, 0, 2, 3), (6, 3, 1, 0)
+>>> pits_by_year(ground, gains, costs, (2, 1), (0, 0, 1, 0), 3)
+[(1, 3), (1, 3), (0, 1, 2, 3), (0, 1, 2, 3)]
+
+>>> from pitlots.grounds import Ground
+>>> from pitlots.sharings import paid_at, sharing, shows_sharing
+>>> ground, gains, costs = Ground(((), (), (0, 1), (1,))), (0, 0, 2, 3), (6, 3, 1, 0)
+>>> value = ((None, None, (7, 2), (1, 1)), ((2, 0, (6, 1)), (2, 2, (1, 1)), (3, 1, (3, 1))))
+>>> [sharing(ground, gains, costs) == value, shows_sharing(ground, gains, costs, value), shows_sharing(ground, gains, costs, (value[0], value[1][1:]))]
+[True, True, False]
+
+>>> from pitlots.grounds import Ground
+>>> from pitlots.sharings import paid_at, sharing
+>>> ground, gains, costs = Ground(((), (), (0, 1), (1,))), (0, 0, 2, 3), (6, 3, 1, 0)
+>>> paid_at(ground, gains, costs, sharing(ground, gains, costs), (2, 1))
+((2, 0, (24, 7)), (2, 2, (4, 7)), (3, 1, (3, 1)))
+
+>>> from pitlots.grounds import Ground
+>>> from pitlots.rows import count_rows, place_of, row_at
+>>> ground = Ground(((), (), (0, 1), (1,)))
+>>> [count_rows(ground, (0, 1, 2, 3)), row_at(ground, (0, 1, 2, 3), 0), row_at(ground, (0, 1, 2, 3), 4), place_of(ground, (0, 1, 2, 3), (1, 0, 3, 2))]
+[5, (0, 1, 2, 3), (1, 3, 0, 2), 3]
+>>> row_at(ground, (0, 1), 2)
+raises BadPlace()
+
+>>> from pitlots.grounds import Ground
+>>> from pitlots.purses import first_paid, least_purse, purse_paper, shows_purse
+>>> ground, worths = Ground(((), (), (0, 1), (1,))), (-4, -3, 9, 2)
+>>> [least_purse(ground, worths, (0, 1, 2, 3)), first_paid(ground, worths, (0, 1, 2, 3), 5), first_paid(ground, worths, (0, 1, 2, 3), 4), first_paid(ground, worths, (0, 1, 2), 7)]
+[5, (1, 3, 0, 2), None, (0, 1, 2)]
+>>> [shows_purse(ground, worths, (0, 1, 2, 3), 5, purse_paper(ground, worths, (0, 1, 2, 3))), shows_purse(ground, worths, (0, 1, 2, 3), 4, ((0,), (0, 1))), purse_paper(ground, (0, 0, 0, 0), (0,))]
+[True, False, None]
+
+>>> from pitlots.grounds import Ground
+>>> from pitlots.rounds import best_rounds, fewest_rounds, highest_first, round_count, round_span
+>>> ground = Ground(((), (), (0, 1), (1,)))
+>>> [fewest_rounds(ground, (0, 1, 2, 3), 2), fewest_rounds(ground, (0, 1, 2, 3), 1), round_count(ground, (0, 1, 2, 3), 2, best_rounds(ground, (0, 1, 2, 3), 2)), round_count(ground, (0, 1), 2, ((1,), (0,)))]
+[2, 4, 2, 2]
+>>> [round_span(ground, (0, 1, 2, 3), 2, 3, 3), round_span(ground, (0, 1, 2, 3), 2, 2, 0), round_span(ground, (0, 1, 2, 3), 2, 1, 0), highest_first(ground, (0, 1, 2, 3), 1)]
+[(2, 3), (1, 1), None, ((0,), (1,), (2,), (3,))]
+"""
+
+
+def answer_of(line, names):
+    """What a line of an example gives, as the document shows it; None for one that gives nothing."""
+    try:
+        code = compile(line, "example", "eval")
+    except SyntaxError:
+        exec(line, names)
+        return None
+    try:
+        return repr(eval(code, names))
+    except ValueError as error:
+        fields = ", ".join(f"{name}={value!r}" for name, value in vars(error).items())
+        return f"raises {error.__class__.__name__}({fields})"
+
+
+class ExamplesTest(unittest.TestCase):
+    def test_all(self):
+        asked = 0
+        for example in EXAMPLES.strip().split("\n\n"):
+            names, lines = {}, example.splitlines()
+            for place, line in enumerate(lines):
+                if line.startswith(">>> "):
+                    answer = answer_of(line[4:], names)
+                    with self.subTest(line):
+                        if answer is not None:
+                            asked += 1
+                            self.assertEqual(answer, lines[place + 1])
+        self.assertEqual(asked, sum(not line.startswith(">>>") for line in EXAMPLES.splitlines() if line))
+
+
+if __name__ == "__main__":
+    unittest.main()
