@@ -76,9 +76,10 @@ def is_whole_row(covers, value, whole):
         return False
     dug = 0
     for block in value:
-        if not is_between(block, 0, len(covers) - 1) or dug >> block & 1 or mask_of(covers[block]) & ~dug:
+        if not is_between(block, 0, len(covers) - 1) or mask_of(covers[block]) & ~dug:
             return False
         dug |= 1 << block
+    # With a block twice, another one would be lacking.
     return dug == whole
 
 

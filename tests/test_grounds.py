@@ -30,6 +30,15 @@ class CoversTest(unittest.TestCase):
             if not isinstance(covers, tuple):
                 self.assert_bad(covers, None)
 
+    def test_tuples_of_any_values(self):
+        for covers in plain.WRONG:
+            if isinstance(covers, tuple) and 1 <= len(covers) <= 10:
+                wrong = [block for block, firsts in enumerate(covers) if not plain.is_lot(((),) * block, firsts)]
+                if wrong:
+                    self.assert_bad(covers, wrong[0])
+                else:
+                    self.assertEqual(Ground(covers).covers, covers)
+
     def test_first_wrong_thing(self):
         wrong = (None, True, 0, "", "0", [], {}, [0], {0: 0}, (2,), (3,), (-1,), (1, 0), (0, 0), (0, 1, 1), (True,),
                  (False,), (0, True), ("0",), (None,), ((0,),), ([],), (0, 10 ** 400), (0, 1, 2))

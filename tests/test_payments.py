@@ -242,6 +242,8 @@ class VerdictTest(unittest.TestCase):
         for value in (("better", (0, 1, 2, 3)), ("better", ())):
             self.assertIs(shows_verdict(GROUND, WORTHS, (0,), value), True)
         for value in (("better", (3,)), ("better", (1, 0)), ("better", [0, 1, 2, 3]), ("better", (0,)), ("best", ()),
+                      ("Better", (0, 1, 2, 3)), ("", (0, 1, 2, 3)), (None, (0, 1, 2, 3)), ("best", (0, 1, 2, 3)),
+                      ("better", (0, 1, 2, 3), ()), ["better", (0, 1, 2, 3)],
                       ("better", (0, 1, 2, 3, 4)), ("better", None), ("better", ((),)), ("better", (0, 1, 2, True))):
             with self.subTest(value=value):
                 self.assertIs(shows_verdict(GROUND, WORTHS, (0,), value), False)

@@ -96,6 +96,15 @@ class RoundsTest(unittest.TestCase):
                     told = (min(places), max(places)) if places else None
                     self.assertEqual(round_span(Ground(covers), pit, machines, rounds, block), told)
 
+    def test_blocks_beside_a_long_chain(self):
+        # Two machines dig 3 and 4 beside the chain of 0, 1 and 2, so 5 can be dug in the fourth round.
+        ground, pit = Ground(((), (0,), (1,), (), (), (2, 3, 4))), (0, 1, 2, 3, 4, 5)
+        self.assertEqual(fewest_rounds(ground, pit, 2), 4)
+        self.assertEqual([round_span(ground, pit, 2, 4, block) for block in pit],
+                         [(1, 1), (2, 2), (3, 3), (1, 3), (1, 3), (4, 4)])
+        self.assertEqual([round_span(ground, pit, 2, 5, block) for block in pit],
+                         [(1, 2), (2, 3), (3, 4), (1, 4), (1, 4), (4, 5)])
+
     def test_empty_pit(self):
         for covers in plain.GREAT:
             for machines in (1, 4):

@@ -166,6 +166,13 @@ class ShowsSharingTest(unittest.TestCase):
         self.assertIs(shows_sharing(*TWINS, value), False)
         self.assertIs(shows_sharing(*TWINS, ((None, None, (2, 1), (4, 1)), ((2, 1, (2, 1)), (3, 0, (4, 1))))), False)
 
+    def test_shares_are_above_0(self):
+        own_rates = (None, None, (3, 1), (3, 1))
+        for shares, right in ((((2, 0, (3, 1)), (3, 0, (1, 1)), (3, 1, (2, 1))), True),
+                              (((2, 0, (3, 1)), (2, 1, (0, 1)), (3, 0, (1, 1)), (3, 1, (2, 1))), False),
+                              (((2, 0, (4, 1)), (2, 1, (-1, 1)), (3, 1, (3, 1))), False)):
+            self.assertIs(shows_sharing(*TWINS, (own_rates, shares)), right)
+
     def test_costs_that_no_gain_needs_are_not_shared(self):
         ground = Ground(((), (), (0,)))
         self.assertEqual(sharing(ground, (1, 0, 0), (2, 5, 7)), (((2, 1), None, None), ((0, 0, (2, 1)),)))
