@@ -3,13 +3,14 @@
 Each check tells the ground first, since it is the first argument of all functions.
 """
 
-from pitlots.errors import BadCosts, BadGains, BadLot, BadPrice, BadWorths, NotPit
+from pitlots.errors import BadCosts, BadGains, BadLot, BadPrice, BadRefills, BadWorths, NotPit
 from pitlots.grounds import check_ground, is_block
 from pitlots.masks import is_pit_mask, mask_of
 from pitlots.ratios import is_fraction
 from pitlots.values import are_between, is_lot_below, is_rising, is_tuple_of
 
 GREATEST_WORTH = 50
+GREATEST_REFILL = 50
 GREATEST_GAIN = 9
 GREATEST_COST = 50
 GREATEST_PRICE_PART = 1000000
@@ -54,6 +55,13 @@ def check_worths(ground, worths):
     check_ground(ground)
     if not are_between(worths, len(ground.covers), -GREATEST_WORTH, GREATEST_WORTH):
         raise BadWorths()
+
+
+def check_worths_and_refills(ground, worths, refills):
+    """Raise BadWorths for what is no worths, then BadRefills for what is no refills."""
+    check_worths(ground, worths)
+    if not are_between(refills, len(ground.covers), -GREATEST_REFILL, GREATEST_REFILL):
+        raise BadRefills()
 
 
 def check_gains_and_costs(ground, gains, costs):

@@ -78,8 +78,12 @@ def sum_of(amounts, mask):
 
 
 def pit_sums(covers, amounts):
-    """A dict from each pit to the sum of the amounts of its blocks."""
-    return {pit: sum_of(amounts, pit) for pit in pit_masks(covers)}
+    """A dict from each pit, ascending, to the sum of the amounts of its blocks."""
+    sums = {0: 0}
+    for block, firsts in enumerate(first_masks(covers)):
+        more = {pit | 1 << block: sums[pit] + amounts[block] for pit in sums if firsts & ~pit == 0}
+        sums.update(more)
+    return sums
 
 
 def most_with(sums, block):

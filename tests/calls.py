@@ -1,18 +1,24 @@
 """All functions of the interface with calls of them: what the tests of wrong arguments and of kept promises go over.
 
-Each row is a function, its module, the kinds of its arguments (the names in plain.FAULTS), their names, and a call of
-it with the example ground.
+Each row is a module, a function of it, the names of its arguments, their kinds (the names in faults.FAULTS), and the
+arguments of a call of it that stand behind the first one, the example ground or the example table.
 """
 
 import importlib
 
 from pitlots.grounds import Ground
+from pitlots.slopes import Table
 
 COVERS = ((), (), (0, 1), (1,))
 WORTHS = (-4, -3, 9, 2)
 GAINS, COSTS, PRICE = (0, 0, 2, 3), (6, 3, 1, 0), (2, 1)
 SHARING = ((None, None, (7, 2), (1, 1)), ((2, 0, (6, 1)), (2, 2, (1, 1)), (3, 1, (3, 1))))
 WHOLE = (0, 1, 2, 3)
+ARMS = ((("dig", 0), ("wait", 1)), (("stand", 0), ("leave",), ("dig", 1)))
+PERIODS = ((-3, 5, -4, 1), (-1, 5, 6, 0))
+REFILLS = (2, -1, 0, 1)
+COLUMNS, RULES = (2, 3, 1), ((1, 1), (2, 1))
+WANTED = ((-1, 0), (-2, 1, 3), (-1,))
 
 TOLD = (
     ("grounds", "cover", "ground block", "ground block", (2,)),
@@ -71,18 +77,65 @@ TOLD = (
      (WHOLE, 2, ((0, 1), (2, 3)))),
     ("rounds", "round_span", "ground pit machines rounds block", "ground pit machines rounds block",
      (WHOLE, 2, 3, 3)),
+    ("twins", "most_pairs", "ground pit", "ground pit", (WHOLE,)),
+    ("twins", "best_pairs", "ground pit", "ground pit", (WHOLE,)),
+    ("twins", "are_pairs", "ground pit value", "ground pit any", (WHOLE, ((0, 1), (2, 3)))),
+    ("arms", "arms_behind", "ground arms turns", "ground arms turns", (ARMS, (1, 1, 0))),
+    ("arms", "arms_next", "ground arms turns", "ground arms turns", (ARMS, (1,))),
+    ("arms", "arms_whole", "ground arms", "ground arms", (ARMS,)),
+    ("arms", "arms_count", "ground arms", "ground arms", (ARMS,)),
+    ("arms", "arms_stuck", "ground arms", "ground arms", (ARMS,)),
+    ("arms", "arms_pits", "ground arms", "ground arms", (ARMS,)),
+    ("periods", "best_by_when", "ground periods", "ground periods", (PERIODS,)),
+    ("periods", "worth_by_when", "ground periods value", "ground periods any", (PERIODS, ((1,), (0, 1)))),
+    ("periods", "copies", "ground periods", "ground periods", (PERIODS,)),
+    ("slopes", "block_at", "table column depth", "table column depth", (1, 3)),
+    ("slopes", "cell_of", "table block", "table cell", (4,)),
+    ("slopes", "ground_of", "table", "table", ()),
+    ("slopes", "is_profile", "table value", "table any", ((1, 2, 1),)),
+    ("slopes", "all_profiles", "table", "table", ()),
+    ("slopes", "count_profiles", "table", "table", ()),
+    ("slopes", "as_pit", "table profile", "table profile", ((1, 2, 1),)),
+    ("slopes", "as_profile", "table pit", "table cells", ((0, 1, 2),)),
+    ("depths", "deepest", "table limits", "table limits", ((2, 3, 0),)),
+    ("depths", "shallowest", "table limits", "table limits", ((0, 3, 0),)),
+    ("depths", "slack", "table one other", "table column column", (0, 2)),
+    ("depths", "holder", "table limits column", "table limits column", ((2, 3, 0), 1)),
+    ("depths", "held_by", "table profile column", "table profile column", ((1, 2, 0), 1)),
+    ("depths", "open_columns", "table profile", "table profile", ((1, 2, 0),)),
+    ("depths", "ridges", "table profile", "table profile", ((1, 2, 0),)),
+    ("depths", "deepened", "table profile column", "table profile free_column", ((0, 1, 0), 1)),
+    ("depths", "flattest", "table rows", "table profiles", ([(0, 2, 0)],)),
+    ("depths", "is_flatter", "table other", "table table", (Table(COLUMNS, ((1, 2), (2, 1))),)),
+    ("depths", "between", "table seen", "table seen", ((None, 2, None),)),
+    ("depths", "best_profile", "table worths", "table wanted", (WANTED,)),
+    ("refills", "can_refill", "ground pit lot", "ground pit lot", (WHOLE, (2,))),
+    ("refills", "plan_worth", "ground worths refills dug open_pit", "ground worths refills pit open",
+     (WORTHS, REFILLS, WHOLE, (0, 1))),
+    ("refills", "best_refill", "ground worths refills", "ground worths refills", (WORTHS, REFILLS)),
+    ("refills", "least_plan", "ground worths refills", "ground worths refills", (WORTHS, REFILLS)),
+    ("refills", "greatest_plan", "ground worths refills", "ground worths refills", (WORTHS, REFILLS)),
+    ("refills", "best_after", "ground worths refills pit", "ground worths refills pit", (WORTHS, REFILLS, (0,))),
+    ("refills", "least_after", "ground worths refills pit", "ground worths refills pit", (WORTHS, REFILLS, (0,))),
 )
 
 
+FIRST = {"ground": (Ground(COVERS), COVERS), "table": (Table(COLUMNS, RULES), (COLUMNS, RULES))}
+
+
 class Call:
-    """A function with the names and kinds of its arguments, and with arguments that fit."""
+    """A function with the names and kinds of its arguments, with arguments that fit, and the shape of the first one."""
 
     def __init__(self, module, name, names, kinds, arguments):
         self.module, self.name = "pitlots." + module, name
         self.function = getattr(importlib.import_module(self.module), name)
         self.names, self.kinds = names.split(), kinds.split()
-        self.arguments = (Ground(COVERS),) + arguments
+        first, self.shape = FIRST[self.kinds[0]]
+        self.arguments = (first,) + arguments
         assert len(self.names) == len(self.kinds) == len(self.arguments)
+
+    def title(self):
+        return self.module + "." + self.name
 
 
 CALLS = [Call(*row) for row in TOLD]

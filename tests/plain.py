@@ -1,15 +1,11 @@
 """Grounds and values for the tests, and the slow and plain ways that the program is held against.
 
-Nothing here uses the package but for its errors and Ground itself.
+Nothing here uses the package.
 """
 
 from fractions import Fraction
-from itertools import combinations, permutations
-from math import gcd
+from itertools import combinations, permutations, product
 from random import Random
-
-from pitlots import errors
-from pitlots.grounds import Ground
 
 SHAPES = {
     "one": ((),),
@@ -180,93 +176,101 @@ def rates_of(covers, gains, costs):
             for block in range(len(covers))]
 
 
-# What is wrong as a value, and which error it has where.
+# The plain ways for arms and tables.
 
-WRONG = (
-    -1, 0, 1, 2, 3, 4, 5, 9, 10, 11, 20, 21, 50, 51, 500, 501, 1000001, -50, -51, 2 ** 64, -2 ** 64, 10 ** 400,
-    "", "0", "best", "(0,)", True, False, None,
-    (), (0,), (1,), (0, 1), (1, 0), (0, 0), (1, 1), (3,), (4,), (10,), (-1,), (2, 4), (0, 1, 2, 3), (3, 2, 1, 0),
-    (True,), (False,), (False, True), (0, True), (0, None), (0, "1"), ("0", "1"), (None,), ((),), ((0,),), ((0, 1),),
-    ((), ()), ((0,), (1,)), ((0, 1, 1),), ((True, 0, 1),), ((2, 0, (1, 1)),), (0, 0, 0, 0), (0, 0, 0, True),
-    (0, 0, 0, "0"), (0, 0, 0, None), (0, 0, 0), (0, 0, 0, 0, 0), (0, 0, 0, 50), (0, 0, 0, 51), (-50, 0, 0, 0),
-    (-51, 0, 0, 0), (9, 0, 0, 0), (10, 0, 0, 0), (0, 0, 0, -1), (0, 0, 0, (0,)), (0, 0, 0, 10 ** 400),
-    (1, 2), (2, 1), (0, 2), (2, 4), (1, 0), (1, -1), (-1, 1), (True, 1), (1, True), (1000000, 1), (1, 1000000),
-    (1000001, 1), (1, 1000001), (1, 1, 1), ("1", 1), (1, None), ((1, 1), (1, 1)), (10 ** 400, 1),
-    [], [0], [0, 1], [0, 0, 0, 0], [[0]], [(0, 1)], [()], {}, {0: 0}, {0: 0, 1: 0}, {"best": ()}, {(): ()},
-    (0, [1]), ([0],), ([], []), ({},), (0, {1: 1}), ((((0,),),),), [[[{}]]], ("best", ()), ("better", (0,)),
-)
+class Digging:
+    """What arms have done, deed by deed; may tells whether an arm can go on, go lets it."""
 
+    def __init__(self, covers, arms):
+        self.covers, self.arms = covers, arms
+        self.dug, self.places, self.stands = set(), [0] * len(arms), [None] * len(arms)
 
-def is_integer(value):
-    return isinstance(value, int) and value is not True and value is not False
+    def may(self, arm):
+        if self.places[arm] == len(self.arms[arm]):
+            return False
+        word, *block = self.arms[arm][self.places[arm]]
+        if word == "leave":
+            return self.stands[arm] is not None
+        if word == "wait":
+            return block[0] in self.dug
+        if word == "stand":
+            return block[0] not in self.dug and self.stands[arm] is None
+        return block[0] not in self.dug | set(self.stands) and set(self.covers[block[0]]) <= self.dug
 
-
-def is_from_to(value, low, high):
-    return is_integer(value) and low <= value <= high
-
-
-def is_tuple_from_to(value, many, low, high):
-    return isinstance(value, tuple) and len(value) == many and all(is_from_to(item, low, high) for item in value)
-
-
-def is_lot(covers, value):
-    if not isinstance(value, tuple) or not all(is_from_to(item, 0, len(covers) - 1) for item in value):
-        return False
-    return list(value) == sorted(set(value))
+    def go(self, arm):
+        word, *block = self.arms[arm][self.places[arm]]
+        self.places[arm] += 1
+        if word == "dig":
+            self.dug.add(block[0])
+        elif word == "stand":
+            self.stands[arm] = block[0]
+        elif word == "leave":
+            self.stands[arm] = None
 
 
-def is_price(value):
-    return is_tuple_from_to(value, 2, 0, 10 ** 6) and value[1] >= 1 and gcd(value[0], value[1]) == 1
+def behind(covers, arms, turns):
+    """The digging behind turns."""
+    digging = Digging(covers, arms)
+    for arm in turns:
+        digging.go(arm)
+    return digging
 
 
-def is_order(covers, value, pit):
-    if not isinstance(value, tuple) or not all(is_integer(item) for item in value):
-        return False
-    return sorted(value) == list(pit) and is_row(covers, value)
+def next_arms(covers, arms, turns):
+    digging = behind(covers, arms, turns)
+    return [arm for arm in range(len(arms)) if digging.may(arm)]
 
 
-def lot_fault(covers, value):
-    return None if is_lot(covers, value) else errors.BadLot
+def turns_of(covers, arms, turns=()):
+    """All turns that begin with some, those that cannot go on, and the others, too."""
+    found = [turns]
+    for arm in next_arms(covers, arms, turns):
+        found += turns_of(covers, arms, turns + (arm,))
+    return found
 
 
-def pit_fault(covers, value):
-    if not is_lot(covers, value):
-        return errors.BadLot
-    return None if is_closed(covers, value) else errors.NotPit
+def keeps(rules, depths):
+    return all(-second <= depths[place] - depths[place + 1] <= first for place, (first, second) in enumerate(rules))
 
 
-def numbers_fault(error, low, high):
-    """Tells the fault of a value that should be an integer from low to high."""
-    return lambda covers, value: None if is_from_to(value, low, high) else error
+def profiles(columns, rules):
+    """All profiles, ascending."""
+    return [depths for depths in product(*[range(most + 1) for most in columns]) if keeps(rules, depths)]
 
 
-def tuples_fault(error, low, high):
-    """Tells the fault of a value that should be a tuple of an integer from low to high for each block."""
-    return lambda covers, value: None if is_tuple_from_to(value, len(covers), low, high) else error
+def cells(columns):
+    """All cells (depth, column), in the order of their blocks."""
+    return sorted((depth, column) for column, most in enumerate(columns) for depth in range(1, most + 1))
 
 
-# For each kind of argument what tells the error of a value, by the covers of the ground; None for a value that fits.
-FAULTS = {
-    "ground": lambda covers, value: None if isinstance(value, Ground) else errors.BadGround,
-    "block": lambda covers, value: None if is_from_to(value, 0, len(covers) - 1) else errors.BadBlock,
-    "order": lambda covers, value: None if is_order(covers, value, range(len(covers))) else errors.BadOrder,
-    "lot": lot_fault,
-    "pit": pit_fault,
-    "worths": tuples_fault(errors.BadWorths, -50, 50),
-    "gains": tuples_fault(errors.BadGains, 0, 9),
-    "costs": tuples_fault(errors.BadCosts, 0, 50),
-    "growths": tuples_fault(errors.BadGrowths, 0, 9),
-    "price": lambda covers, value: None if is_price(value) else errors.BadPrice,
-    "target": numbers_fault(errors.BadTarget, 0, 500),
-    "years": numbers_fault(errors.BadYears, 0, 20),
-    "purse": numbers_fault(errors.BadPurse, 0, 500),
-    "purse_from_1": numbers_fault(errors.BadPurse, 1, 500),
-    "machines": numbers_fault(errors.BadMachines, 1, 4),
-    "rounds": numbers_fault(errors.BadRounds, 0, 10),
-    # These two are asked for the example ground and its whole pit alone, which has five rows.
-    "number": numbers_fault(errors.BadPlace, 0, 4),
-    "row": lambda covers, value: None if is_order(covers, value, (0, 1, 2, 3)) else errors.BadRow,
-    # No wrong value here is a sharing of the costs that the calls tell.
-    "sharing": lambda covers, value: errors.BadSharing,
-    "any": lambda covers, value: None,
-}
+def covers_of(columns, rules):
+    """What the cells of a table need first, by all profiles."""
+    found, every = [], profiles(columns, rules)
+    for depth, column in cells(columns):
+        dug = [depths for depths in every if depths[column] >= depth]
+        ahead = [(min(depths[other] for depths in dug), other) for other in (column - 1, column + 1)
+                 if 0 <= other < len(columns)]
+        firsts = [cells(columns).index(cell) for cell in [(depth - 1, column)] + ahead if cell[0] > 0]
+        found.append(tuple(sorted(firsts)))
+    return tuple(found)
+
+
+def some_tables(seed, many):
+    """Some pairs of columns and rules by which they can be dug whole, always the same ones for a seed."""
+    dice, found = Random(seed), []
+    while len(found) < many:
+        columns = tuple(dice.randint(1, 5) for _ in range(dice.randint(1, 5)))
+        greatest = dice.choice((1, 2, 3, 9))
+        rules = tuple((dice.randint(1, greatest), dice.randint(1, greatest)) for _ in columns[1:])
+        if sum(columns) <= 10 and keeps(rules, columns):
+            found.append((columns, rules))
+    return found
+
+
+TABLES = [
+    ((1,), ()), ((10,), ()), ((1, 1), ((1, 1),)), ((5, 5), ((1, 1),)), ((5, 5), ((9, 9),)), ((9, 1), ((8, 1),)),
+    ((1, 9), ((1, 8),)), ((2, 2, 2, 2, 2), ((1, 1),) * 4), ((2, 2, 2, 2, 2), ((9, 9),) * 4),
+    ((2, 3, 1), ((1, 1), (2, 1))),
+    ((1, 2, 3, 3, 1), ((1, 1), (1, 1), (1, 1), (2, 1))), ((3, 1, 3, 1, 2), ((2, 1), (1, 2), (2, 1), (1, 1))),
+    ((4, 3, 2, 1), ((1, 9), (1, 9), (1, 9))), ((1, 2, 3, 4), ((1, 1),) * 3),
+] + some_tables(25, 30)

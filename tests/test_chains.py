@@ -6,7 +6,7 @@ import unittest
 from pitlots import errors
 from pitlots.chains import chain, shows_chain
 from pitlots.grounds import Ground
-from tests import plain
+from tests import faults, plain
 
 
 def chains_between(covers, one, other):
@@ -59,7 +59,7 @@ class ShowsChainTest(unittest.TestCase):
 
     def test_any_value(self):
         ground = Ground(((), (0,), (0, 1)))
-        for value in plain.WRONG + ((2, 1, False), (2, True, 0), (2, 0, 0), [2, 0], (2, 3, 0), (2, -3, 0), (2, "1", 0),
+        for value in faults.WRONG + ((2, 1, False), (2, True, 0), (2, 0, 0), [2, 0], (2, 3, 0), (2, -3, 0), (2, "1", 0),
                                     (2, None, 0), (2, (1,), 0), (2, 1, 0, 0), ((2, 0),), (2, 10 ** 400, 0)):
             with self.subTest(value=str(value)[:40]):
                 self.assertIs(shows_chain(ground, 2, 0, value), False)

@@ -106,6 +106,76 @@ raises BadPlace()
 [2, 4, 2, 2]
 >>> [round_span(ground, (0, 1, 2, 3), 2, 3, 3), round_span(ground, (0, 1, 2, 3), 2, 2, 0), round_span(ground, (0, 1, 2, 3), 2, 1, 0), highest_first(ground, (0, 1, 2, 3), 1)]
 [(2, 3), (1, 1), None, ((0,), (1,), (2,), (3,))]
+
+>>> from pitlots.grounds import Ground
+>>> from pitlots.twins import are_pairs, best_pairs, most_pairs
+>>> ground = Ground(((), (), (0, 1), (1,)))
+>>> [most_pairs(ground, (0, 1, 2, 3)), best_pairs(ground, (0, 1)), are_pairs(ground, (0, 1, 2, 3), ((0, 1), (2, 3))), are_pairs(ground, (0, 1, 2, 3), ((0, 2),))]
+[2, ((0, 1),), True, False]
+
+>>> from pitlots.arms import arms_behind, arms_count, arms_next, arms_pits, arms_stuck, arms_whole
+>>> from pitlots.grounds import Ground
+>>> ground, arms = Ground(((), (0,), (0,))), ((("dig", 0), ("wait", 1)), (("stand", 0), ("leave",), ("dig", 1)))
+>>> [arms_behind(ground, arms, (1, 1, 0)), arms_next(ground, arms, ()), arms_next(ground, arms, (1,)), arms_whole(ground, arms), arms_count(ground, arms)]
+[((0,), (1, 2), (None, None)), [0, 1], [1], (1, 1, 0, 1, 0), 1]
+>>> [arms_stuck(ground, arms), arms_pits(ground, arms)]
+[(0,), [(), (0,), (0, 1)]]
+>>> arms_behind(ground, arms, (1, 0))
+raises BadTurns(index=1)
+
+>>> from pitlots.grounds import Ground
+>>> from pitlots.periods import best_by_when, copies, worth_by_when
+>>> ground, periods = Ground(((), (0,))), ((-3, 5), (-1, 5))
+>>> [best_by_when(ground, periods), worth_by_when(ground, periods, ((0,), (0, 1))), worth_by_when(ground, periods, ((0, 1), (0,)))]
+[(4, ((), (0, 1))), 2, None]
+>>> [copies(ground, periods)[0].covers, copies(ground, periods)[1]]
+[((), (0,), (0,), (1, 2)), (-1, 5, -2, 0)]
+>>> best_by_when(ground, ((0, 0), (0,)))
+raises BadPeriods(index=1)
+
+>>> from pitlots.slopes import Table, as_pit, as_profile, block_at, cell_of, count_profiles, ground_of, is_profile
+>>> table = Table((2, 3, 1), ((1, 1), (2, 1)))
+>>> [block_at(table, 1, 3), cell_of(table, 4), ground_of(table).covers]
+[5, (1, 2), ((), (), (), (0, 1), (0, 1), (2, 3, 4))]
+
+>>> from pitlots.slopes import Table, all_profiles, as_pit, as_profile, count_profiles, is_profile
+>>> table = Table((2, 3, 1), ((1, 1), (2, 1)))
+>>> [count_profiles(table), all_profiles(table)[-3:], as_pit(table, (1, 2, 1)), as_profile(table, (0, 1, 2)), is_profile(table, (2, 0, 0))]
+[15, [(2, 2, 0), (2, 2, 1), (2, 3, 1)], (0, 1, 2, 4), (1, 1, 1), False]
+
+>>> from pitlots.depths import deepest, holder, shallowest, slack
+>>> from pitlots.slopes import Table
+>>> table = Table((2, 3, 1), ((1, 1), (2, 1)))
+>>> [deepest(table, (2, 3, 0)), holder(table, (2, 3, 0), 0), shallowest(table, (0, 3, 0)), slack(table, 0, 2), slack(table, 2, 0)]
+[(2, 2, 0), 0, (2, 3, 1), 3, 2]
+
+>>> from pitlots.depths import deepened, held_by, open_columns, ridges
+>>> from pitlots.slopes import Table
+>>> table = Table((2, 3, 1), ((1, 1), (2, 1)))
+>>> [open_columns(table, (1, 2, 0)), held_by(table, (1, 2, 0), 1), ridges(table, (1, 2, 0)), deepened(table, (0, 1, 0), 1)]
+[[0, 2], [0, 2], [0, 2], (1, 2, 0)]
+
+>>> from pitlots.depths import between, flattest, is_flatter
+>>> from pitlots.slopes import Table
+>>> table = Table((2, 3, 1), ((1, 1), (2, 1)))
+>>> [flattest(table, [(0, 2, 0)]).rules, is_flatter(table, flattest(table, [(0, 2, 0)])), between(table, (None, 2, None)), between(table, (0, 2, None))]
+[((1, 2), (2, 1)), True, ((1, 2), (2, 2), (0, 1)), None]
+
+>>> from pitlots.depths import best_profile
+>>> from pitlots.slopes import Table
+>>> table = Table((2, 3, 1), ((1, 1), (2, 1)))
+>>> best_profile(table, ((-1, 0), (-2, 1, 3), (-1,)))
+(0, (0, 0, 0), (2, 3, 1))
+
+>>> from pitlots.grounds import Ground
+>>> from pitlots.refills import best_after, best_refill, can_refill, greatest_plan, least_after, least_plan, plan_worth
+>>> ground = Ground(((), (0,), (0,)))
+>>> [can_refill(ground, (0, 1, 2), (0,)), can_refill(ground, (0, 1, 2), (1, 2)), plan_worth(ground, (-4, 3, 2), (2, -1, 0), (0, 1, 2), (0, 1))]
+[False, True, 1]
+>>> [best_refill(ground, (-4, 3, 2), (2, -1, 0)), least_plan(ground, (-4, 3, 2), (2, -1, 0)), greatest_plan(ground, (-4, 3, 2), (2, -1, 0))]
+[2, ((0, 1, 2), ()), ((0, 1, 2), ())]
+>>> [best_after(ground, (-4, 1, -3), (2, 0, 0), (0,)), least_after(ground, (-4, 1, -3), (2, 0, 0), (0,))]
+[3, ((0, 1), ())]
 """
 
 

@@ -5,7 +5,7 @@ import unittest
 
 from pitlots import errors
 from pitlots.grounds import Ground, cover, levels, needers, renamed
-from tests import plain
+from tests import faults, plain
 
 
 class CoversTest(unittest.TestCase):
@@ -26,14 +26,14 @@ class CoversTest(unittest.TestCase):
         self.assert_bad((5,) * 11, None)
 
     def test_no_tuple_of_things(self):
-        for covers in plain.WRONG:
+        for covers in faults.WRONG:
             if not isinstance(covers, tuple):
                 self.assert_bad(covers, None)
 
     def test_tuples_of_any_values(self):
-        for covers in plain.WRONG:
+        for covers in faults.WRONG:
             if isinstance(covers, tuple) and 1 <= len(covers) <= 10:
-                wrong = [block for block, firsts in enumerate(covers) if not plain.is_lot(((),) * block, firsts)]
+                wrong = [block for block, firsts in enumerate(covers) if not faults.is_lot(((),) * block, firsts)]
                 if wrong:
                     self.assert_bad(covers, wrong[0])
                 else:
@@ -72,7 +72,7 @@ class CoversTest(unittest.TestCase):
     def test_equal_to_nothing_of_another_kind(self):
         class Other:
             covers = ((),)
-        for value in plain.WRONG + (((),), Other()):
+        for value in faults.WRONG + (((),), Other()):
             self.assertIs(Ground(((),)) == value, False)
             self.assertIs(value == Ground(((),)), False)
             self.assertIs(Ground(((),)) != value, True)

@@ -8,7 +8,7 @@ from pitlots import errors
 from pitlots.grounds import Ground
 from pitlots.payments import are_payments, payments, shows_best, shows_verdict, verdict
 from pitlots.worths import best_worth
-from tests import plain
+from tests import faults, plain
 
 GROUND, WORTHS = Ground(((), (), (0, 1), (1,))), (-2, -3, 4, 2)
 
@@ -148,7 +148,7 @@ class PaymentsTest(unittest.TestCase):
 
     def test_any_value(self):
         worths = (-2, -3, 4, 2)
-        for value in plain.WRONG + ([], [(2, 0, 1)], ([2, 0, 1],), ((2, 0),), ((2, 0, 1, 1),), ((2, 0, True),),
+        for value in faults.WRONG + ([], [(2, 0, 1)], ([2, 0, 1],), ((2, 0),), ((2, 0, 1, 1),), ((2, 0, True),),
                                     ((2, False, 1),), ((2, 0, "1"),), ((2, 0, None),), ((2, 0, (1, 1)),),
                                     ((4, 0, 1),), ((-2, 0, 1),), ((2, -4, 1),), ((2, 0, 10 ** 400),), (2, 0, 1),
                                     ((2, 0, 1), None), ((2, 0, 1), ()), {(2, 0, 1): 1}, (((2, 0, 1),),)):

@@ -7,7 +7,7 @@ from random import Random
 from pitlots import errors
 from pitlots.grounds import Ground
 from pitlots.purses import first_paid, least_purse, purse_paper, shows_purse
-from tests import plain
+from tests import faults, plain
 
 GROUND, WORTHS, WHOLE = Ground(((), (), (0, 1), (1,))), (-4, -3, 9, 2), (0, 1, 2, 3)
 
@@ -143,7 +143,7 @@ class PapersTest(unittest.TestCase):
 
     def test_any_value(self):
         self.assertIs(shows_purse(GROUND, WORTHS, WHOLE, 5, ((0, 1), (0, 1, 3))), True)
-        for value in plain.WRONG + (((0, 1, 3), (0, 1)), ((0, 1), (0, 1), (0, 1, 3)), [(0, 1), (0, 1, 3)],
+        for value in faults.WRONG + (((0, 1, 3), (0, 1)), ((0, 1), (0, 1), (0, 1, 3)), [(0, 1), (0, 1, 3)],
                                     ([0, 1], (0, 1, 3)), ((0, 1), (0, 3)), ((0, 1), (1, 0)), ((0, True), (0, 1, 3)),
                                     ((0, 1),), ((0, 1, 3),), ((0, 1), (0, 1, 3), None), ((0, 1), (0, 1, 3), ()),
                                     ((0,), (0, 1), (0, 1, 3)), ((0, 1), (0, 1, 3), (0, 1, 2, 3)), ((0, 1), (0, 1, 4))):

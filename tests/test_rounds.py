@@ -6,7 +6,7 @@ from random import Random
 from pitlots import errors
 from pitlots.grounds import Ground
 from pitlots.rounds import best_rounds, fewest_rounds, highest_first, round_count, round_span
-from tests import plain
+from tests import faults, plain
 
 GROUND, WHOLE = Ground(((), (), (0, 1), (1,))), (0, 1, 2, 3)
 
@@ -135,7 +135,7 @@ class RoundsTest(unittest.TestCase):
 
     def test_any_value(self):
         self.assertEqual(round_count(GROUND, WHOLE, 2, ((0, 1), (2, 3))), 2)
-        for value in plain.WRONG + (((1, 0), (2, 3)), [(0, 1), (2, 3)], ([0, 1], (2, 3)), ((0, True), (2, 3)),
+        for value in faults.WRONG + (((1, 0), (2, 3)), [(0, 1), (2, 3)], ([0, 1], (2, 3)), ((0, True), (2, 3)),
                                     ((0, 1), (2,)), ((0, 1), (2, 3), ()), ((), (0, 1), (2, 3)), ((0, 1), (2, 3), (3,)),
                                     ((0, 1, 3), (2,)), ((0, 1), (2, 4)), ((0, 1), (2, -1)), ((0, 1), (2, 3), None),
                                     ((0, 1), 2, 3), ((2, 3), (0, 1)), ((0, 0, 1), (2, 3)), ((False, 1), (2, 3)),

@@ -9,7 +9,7 @@ from pitlots.grounds import Ground
 from pitlots.ladders import rates
 from pitlots.prices import best_at
 from pitlots.sharings import paid_at, sharing, shows_sharing
-from tests import plain
+from tests import faults, plain
 
 GROUND, GAINS, COSTS = Ground(((), (), (0, 1), (1,))), (0, 0, 2, 3), (6, 3, 1, 0)
 VALUE = ((None, None, (7, 2), (1, 1)), ((2, 0, (6, 1)), (2, 2, (1, 1)), (3, 1, (3, 1))))
@@ -203,7 +203,7 @@ class ShowsSharingTest(unittest.TestCase):
                       (2, 0, (6, 1), 1), [2, 0, (6, 1)], (2, 4, (6, 1)), (2, -4, (6, 1)), (2, "0", (6, 1)), None,
                       (2, 0, (0, 1)), (2, 0, (-6, 1)), (2, 0, None), (2, 0, "6")):
             wrong.append((own_rates, (third,) + shares[1:]))
-        for value in wrong + list(plain.WRONG):
+        for value in wrong + list(faults.WRONG):
             with self.subTest(value=str(value)[:60]):
                 self.assertIs(shows_sharing(GROUND, GAINS, COSTS, value), False)
 

@@ -1,0 +1,223 @@
+"""What is wrong as a value, and which error it has where.
+
+Each kind of argument has a function that tells the fault of a value: the error that is raised for it, as an object,
+None for a value that fits. It is asked of the shape of the first argument: the covers of a ground, the columns and
+the rules of a table.
+"""
+
+from math import gcd
+
+from pitlots import errors
+from pitlots.grounds import Ground
+from pitlots.slopes import Table
+from tests import calls, plain
+
+PLAIN = (
+    -1, 0, 1, 2, 3, 4, 5, 9, 10, 11, 20, 21, 50, 51, 500, 501, 1000001, -50, -51, 2 ** 64, -2 ** 64, 10 ** 400,
+    "", "0", "best", "(0,)", True, False, None,
+    (), (0,), (1,), (0, 1), (1, 0), (0, 0), (1, 1), (3,), (4,), (10,), (-1,), (2, 4), (0, 1, 2, 3), (3, 2, 1, 0),
+    (True,), (False,), (False, True), (0, True), (0, None), (0, "1"), ("0", "1"), (None,), ((),), ((0,),), ((0, 1),),
+    ((), ()), ((0,), (1,)), ((0, 1, 1),), ((True, 0, 1),), ((2, 0, (1, 1)),), (0, 0, 0, 0), (0, 0, 0, True),
+    (0, 0, 0, "0"), (0, 0, 0, None), (0, 0, 0), (0, 0, 0, 0, 0), (0, 0, 0, 50), (0, 0, 0, 51), (-50, 0, 0, 0),
+    (-51, 0, 0, 0), (9, 0, 0, 0), (10, 0, 0, 0), (0, 0, 0, -1), (0, 0, 0, (0,)), (0, 0, 0, 10 ** 400),
+    (1, 2), (2, 1), (0, 2), (2, 4), (1, 0), (1, -1), (-1, 1), (True, 1), (1, True), (1000000, 1), (1, 1000000),
+    (1000001, 1), (1, 1000001), (1, 1, 1), ("1", 1), (1, None), ((1, 1), (1, 1)), (10 ** 400, 1),
+    [], [0], [0, 1], [0, 0, 0, 0], [[0]], [(0, 1)], [()], {}, {0: 0}, {0: 0, 1: 0}, {"best": ()}, {(): ()},
+    (0, [1]), ([0],), ([], []), ({},), (0, {1: 1}), ((((0,),),),), [[[{}]]], ("best", ()), ("better", (0,)),
+)
+
+# Values that nearly fit where deeds, periods, depths, bounds, choices or probes are wanted.
+NEAR = (
+    ((), (), (), ()), (("leave",),), ((("leave",),),), ((("leave",),) * 5,), ((("leave",),) * 6,), ((("leave", 0),),),
+    ((("dig", 0),),), ((("dig", 4),),), ((), (("dig", 0), ("dig", -1))), ((("dig", True),),), ((("dig",),),),
+    ((("dig", 0, 0),),), ((["dig", 0],),), ([("dig", 0)],), [(("dig", 0),)], ((("fill", 0),),), ((("Dig", 0),),),
+    ((("wait", 3), ("stand", "0")),), ((("wait", None),), ("wait", 0)), ((), (), (("stand", (0,)),)),
+    ((0,), ("dig", 0)),
+    (1, 1, 0), (1, 1, 0, 1), (1, 1, 1), (0, 0), (1, 1, 0, 1, 0), (1, 1, 0, 1, 0, 0), (1, 2), (1, -1), (1, "1"),
+    (1, None), (0,) * 15, (0,) * 16, (1,) * 16,
+    ((0,) * 4,), ((0,) * 4, (0,) * 4), ((0,) * 4,) * 3, ((0,) * 4, (0,) * 3), ((0,) * 4, (0, 0, 0, 25)),
+    ((0,) * 4, (0, 0, 0, 26)), ((0, 0, -26, 0), (0,) * 4), ((0,) * 4, [0] * 4), ((0,) * 4, (0, 0, True, 0)),
+    [(0,) * 4], ((0,) * 4, None),
+    (2, 3, 1), (3, 3, 1), (2, 4, 1), (2, 3, 2), (2, 3), (0, 2, 0), (1, 2, 0), (0, 1, 0), (0, -1, 0), (2, 3, True),
+    [0, 0, 0], (0, 0, None), (None, None, None), (None, 2, None), (None, 4, None), (None, True, 0), (None, "2", None),
+    (None, None), ((0, 0), (0, 0, 0), (0,)), ((0, 0), (0, 0, 0), (51,)), ((0, 0), (0, 0), (0,)),
+    ((0, 0), (0, -51, 0), ()),
+    ((0, 0), [0, 0, 0], (0,)), ((0, 0), (0, True, 0), (0,)), ((0, 0), (0, 0, 0)), [(0, 0), (0, 0, 0), (0,)],
+    [(0, 0, 0), (2, 3, 1)], [(0, 0, 0), (3, 0, 0)], ((0, 3, 0), (0, 0)), ((0, 3, 0),), ((0, 3, 0),) * 20,
+    ((0, 3, 0),) * 21, [(0, 3, 0)] * 20, [(0, 3, 0)] * 21, [(0, 3, 0), [0, 3, 0]], {(0, 3, 0): 0},
+    ((0, 0),) * 4, ((0, 0),) * 3, ((0, 0),) * 5, ((0, 0), (1, 0), (0, 0), (0, 0)), ((-50, 50),) * 4,
+    ((0, 0), (0, 0), (0, 51), (0, 0)), ((-51, 0), (0, 0), (0, 0), (0, 0)), ((0, 0), (0, 0), (0, 0), (0, True)),
+    ((0, 0), (0, 0), [0, 0], (0, 0)), ((0, 0), (0, 0), (0, 0), (0, 1, 2)), [(0, 0)] * 4, ((0, 0), (0, 0), (0, 0), "00"),
+    ((0,),) * 4, ((0,), (0, 1), (0, 1, 2), (-50, 50)), ((0,), (0, 1), (0, 1, 2), (0, 1, 2, 3)), ((0,), (), (0,), (0,)),
+    ((0,), (0,), (1, 0), (0,)), ((0,), (0,), (0, 0), (0,)), ((0,), (0,), (0,), (51,)), ((-51,), (0,), (0,), (0,)),
+    ((0,), (True,), (0,), (0,)), ((0,), [0], (0,), (0,)), [(0,)] * 4, ((0,), (0,), (0,), 0),
+    ((0,), (0,), (None,), (0,)),
+    (("told", 0, 0),), (("told", 0, 0),) * 12, (("told", 0, 0),) * 13, (("changed", 3, 50), ("told", 4, 0)),
+    (("changed", 3, 51),), (("changed", 3, -50), ("changed", 3, -51)), (("told", True, 0),), (("told", 0, True),),
+    (("told", 0),), (("told", 0, 0, 0),), (["told", 0, 0],), [("told", 0, 0)], (("tell", 0, 0),), ("told", 0, 0),
+    ("dig", (0, 1, 2, 3)), ("dig", ()), ("sure", ()), ("sure", None), ("case", (0, 0, 0, 0), ()), (0, ()), (True, ()),
+)
+WRONG = PLAIN + NEAR
+
+
+def is_integer(value):
+    return isinstance(value, int) and value is not True and value is not False
+
+
+def is_from_to(value, low, high):
+    return is_integer(value) and low <= value <= high
+
+
+def is_tuple_from_to(value, many, low, high):
+    return isinstance(value, tuple) and len(value) == many and all(is_from_to(item, low, high) for item in value)
+
+
+def is_lot(covers, value):
+    if not isinstance(value, tuple) or not all(is_from_to(item, 0, len(covers) - 1) for item in value):
+        return False
+    return list(value) == sorted(set(value))
+
+
+def is_price(value):
+    return is_tuple_from_to(value, 2, 0, 10 ** 6) and value[1] >= 1 and gcd(value[0], value[1]) == 1
+
+
+def is_order(covers, value, pit):
+    if not isinstance(value, tuple) or not all(is_integer(item) for item in value):
+        return False
+    return sorted(value) == list(pit) and plain.is_row(covers, value)
+
+
+def is_tuple(value, many):
+    return isinstance(value, tuple) and len(value) == many
+
+
+def are_depths(columns, value):
+    return is_tuple(value, len(columns)) and all(is_from_to(depth, 0, most) for depth, most in zip(value, columns))
+
+
+def is_one_of(value, allowed):
+    """Whether a value is one of some plain values; True is not 1 here."""
+    return repr(value) in [repr(one) for one in allowed]
+
+
+def first_wrong(error, values, fits):
+    """The error with the index of the first value that does not fit, None if all do."""
+    for index, value in enumerate(values):
+        if not fits(value):
+            return error(index)
+    return None
+
+
+def fault_unless(fits, error):
+    """What tells an error without fields of each value that does not fit."""
+    return lambda shape, value: None if fits(shape, value) else error()
+
+
+def fault_of_number(error, low, high):
+    """What tells the fault of a value that should be an integer from low to high."""
+    return lambda shape, value: None if is_from_to(value, low, high) else error()
+
+
+def fault_of_row(error, low, high):
+    """What tells the fault of a value that should be a tuple of an integer from low to high for each block."""
+    return lambda covers, value: None if is_tuple_from_to(value, len(covers), low, high) else error()
+
+
+def pit_fault(covers, value):
+    if not is_lot(covers, value):
+        return errors.BadLot()
+    return None if plain.is_closed(covers, value) else errors.NotPit()
+
+
+def arms_fault(covers, value):
+    if not isinstance(value, tuple) or len(value) not in (1, 2, 3):
+        return errors.BadArms(None, None)
+    deeds = [("leave",)] + [(word, block) for word in ("dig", "wait", "stand") for block in range(len(covers))]
+    for arm, thing in enumerate(value):
+        if not isinstance(thing, tuple) or len(thing) > 5:
+            return errors.BadArms(arm, None)
+        for place, deed in enumerate(thing):
+            if not is_one_of(deed, deeds):
+                return errors.BadArms(arm, place)
+    return None
+
+
+def turns_fault(covers, value):
+    """That of turns of the arms that the calls tell."""
+    if not isinstance(value, tuple) or len(value) > 15:
+        return errors.BadTurns(None)
+    for index, arm in enumerate(value):
+        if not is_one_of(arm, plain.next_arms(covers, calls.ARMS, value[:index])):
+            return errors.BadTurns(index)
+    return None
+
+
+def periods_fault(covers, value):
+    if not isinstance(value, tuple) or not 1 <= len(value) * len(covers) <= 10:
+        return errors.BadPeriods(None)
+    return first_wrong(errors.BadPeriods, value, lambda worths: is_tuple_from_to(worths, len(covers), -25, 25))
+
+
+def seen_fault(shape, value):
+    if not isinstance(value, tuple):
+        return errors.BadLimits()
+    return None if are_depths(shape[0], tuple(0 if depth is None else depth for depth in value)) else errors.BadLimits()
+
+
+def profiles_fault(shape, value):
+    if not isinstance(value, (list, tuple)) or len(value) > 20:
+        return errors.BadProfiles(None)
+    return first_wrong(errors.BadProfiles, value, lambda row: are_depths(shape[0], row))
+
+
+def wanted_fault(shape, value):
+    if not is_tuple(value, len(shape[0])):
+        return errors.BadWanted(None)
+    return first_wrong(errors.BadWanted, range(len(value)),
+                       lambda column: is_tuple_from_to(value[column], shape[0][column], -50, 50))
+
+
+FAULTS = {
+    "any": lambda shape, value: None,
+    "ground": fault_unless(lambda covers, value: isinstance(value, Ground), errors.BadGround),
+    "block": fault_unless(lambda covers, value: is_from_to(value, 0, len(covers) - 1), errors.BadBlock),
+    "order": fault_unless(lambda covers, value: is_order(covers, value, range(len(covers))), errors.BadOrder),
+    "lot": fault_unless(is_lot, errors.BadLot),
+    "pit": pit_fault,
+    "worths": fault_of_row(errors.BadWorths, -50, 50),
+    "gains": fault_of_row(errors.BadGains, 0, 9),
+    "costs": fault_of_row(errors.BadCosts, 0, 50),
+    "growths": fault_of_row(errors.BadGrowths, 0, 9),
+    "refills": fault_of_row(errors.BadRefills, -50, 50),
+    "price": fault_unless(lambda covers, value: is_price(value), errors.BadPrice),
+    "target": fault_of_number(errors.BadTarget, 0, 500),
+    "years": fault_of_number(errors.BadYears, 0, 20),
+    "purse": fault_of_number(errors.BadPurse, 0, 500),
+    "purse_from_1": fault_of_number(errors.BadPurse, 1, 500),
+    "machines": fault_of_number(errors.BadMachines, 1, 4),
+    "rounds": fault_of_number(errors.BadRounds, 0, 10),
+    "arms": arms_fault,
+    "periods": periods_fault,
+    "table": fault_unless(lambda shape, value: isinstance(value, Table), errors.BadTable),
+    "column": fault_unless(lambda shape, value: is_from_to(value, 0, len(shape[0]) - 1), errors.BadColumn),
+    "cell": fault_unless(lambda shape, value: is_from_to(value, 0, sum(shape[0]) - 1), errors.BadBlock),
+    "profile": fault_unless(lambda shape, value: is_one_of(value, plain.profiles(*shape)), errors.BadProfile),
+    "limits": fault_unless(lambda shape, value: are_depths(shape[0], value), errors.BadLimits),
+    "cells": lambda shape, value: pit_fault(plain.covers_of(*shape), value),
+    "seen": seen_fault,
+    "profiles": profiles_fault,
+    "wanted": wanted_fault,
+    # Those from here on hang on the arguments ahead: they are asked for the arguments that the calls tell alone.
+    "number": fault_of_number(errors.BadPlace, 0, 4),
+    "row": fault_unless(lambda covers, value: is_order(covers, value, (0, 1, 2, 3)), errors.BadRow),
+    # No wrong value here is a sharing of the costs that the calls tell.
+    "sharing": lambda covers, value: errors.BadSharing(),
+    "turns": turns_fault,
+    "depth": fault_of_number(errors.BadDepth, 1, 3),
+    # No column of the profile that the calls tell is dug whole.
+    "free_column": fault_unless(lambda shape, value: is_from_to(value, 0, len(shape[0]) - 1), errors.BadColumn),
+    # What is dug is all, so whatever pit lies within.
+    "open": pit_fault,
+}
+HANGING = {"number", "row", "sharing", "turns", "depth", "free_column", "open"}
