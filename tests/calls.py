@@ -19,6 +19,10 @@ PERIODS = ((-3, 5, -4, 1), (-1, 5, 6, 0))
 REFILLS = (2, -1, 0, 1)
 COLUMNS, RULES = (2, 3, 1), ((1, 1), (2, 1))
 WANTED = ((-1, 0), (-2, 1, 3), (-1,))
+BOUNDS = ((-4, -2), (-3, -3), (8, 9), (0, 2))
+CHOICES = ((-4,), (-3,), (5, 9), (0, 2))
+PLAN = (2, ((5, ("dig", ())), (9, ("dig", WHOLE))))
+PROBES = (("told", 2, 9), ("changed", 1, 7), ("told", 0, -4))
 
 TOLD = (
     ("grounds", "cover", "ground block", "ground block", (2,)),
@@ -117,6 +121,35 @@ TOLD = (
     ("refills", "greatest_plan", "ground worths refills", "ground worths refills", (WORTHS, REFILLS)),
     ("refills", "best_after", "ground worths refills pit", "ground worths refills pit", (WORTHS, REFILLS, (0,))),
     ("refills", "least_after", "ground worths refills pit", "ground worths refills pit", (WORTHS, REFILLS, (0,))),
+    ("doubling", "doubled", "ground", "ground", ()),
+    ("doubling", "doubled_worths", "ground worths refills", "ground worths added", (WORTHS, REFILLS)),
+    ("doubling", "as_pit", "ground dug open_pit", "ground pit open", (WHOLE, (0, 1))),
+    ("doubling", "of_pit", "ground pit", "ground doubled_pit", ((0, 1, 2),)),
+    ("changes", "best_from", "ground worths pit", "ground worths pit", (WORTHS, (0,))),
+    ("changes", "least_from", "ground worths pit", "ground worths pit", (WORTHS, (0,))),
+    ("changes", "regret", "ground worths pit", "ground worths pit", (WORTHS, (0,))),
+    ("changes", "never_begun", "ground worths pit", "ground worths pit", ((-4, -3, 9, -2), (1, 3))),
+    ("changes", "back_row", "ground pit goal", "ground pit pit", ((0,), (1, 3))),
+    ("changes", "back_worth", "ground worths refills pit goal", "ground worths refills pit pit",
+     (WORTHS, REFILLS, (0,), (1, 3))),
+    ("bounds", "is_sure", "ground bounds pit", "ground bounds pit", (BOUNDS, WHOLE)),
+    ("bounds", "is_possible", "ground bounds pit", "ground bounds pit", (BOUNDS, (0, 1, 2))),
+    ("bounds", "sure_pits", "ground bounds", "ground bounds", (BOUNDS,)),
+    ("bounds", "possible_pits", "ground bounds", "ground bounds", (BOUNDS,)),
+    ("bounds", "fates_whatever", "ground bounds", "ground bounds", (BOUNDS,)),
+    ("bounds", "sure_verdict", "ground bounds pit", "ground bounds pit", (BOUNDS, ())),
+    ("bounds", "shows_sure", "ground bounds pit value", "ground bounds pit any",
+     (BOUNDS, WHOLE, ("sure", ((2, 0, 4), (2, 1, 3))))),
+    ("choices", "count_cases", "ground choices", "ground choices", (CHOICES,)),
+    ("choices", "known_best", "ground choices", "ground choices", (CHOICES,)),
+    ("choices", "worst_regret", "ground choices pit", "ground choices pit", (CHOICES, WHOLE)),
+    ("choices", "least_regret", "ground choices", "ground choices", (CHOICES,)),
+    ("probing", "fewest_probes", "ground choices", "ground choices", (CHOICES,)),
+    ("probing", "probe_plan", "ground choices", "ground choices", (CHOICES,)),
+    ("probing", "best_probe", "ground choices", "ground choices", (CHOICES,)),
+    ("probing", "shows_probe_plan", "ground choices many value", "ground choices many any", (CHOICES, 1, PLAN)),
+    ("probelogs", "left_by", "ground choices probes", "ground choices probes", (CHOICES, PROBES)),
+    ("probelogs", "first_against", "ground choices probes", "ground choices probes", (CHOICES, PROBES)),
 )
 
 

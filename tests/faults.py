@@ -178,6 +178,41 @@ def wanted_fault(shape, value):
                        lambda column: is_tuple_from_to(value[column], shape[0][column], -50, 50))
 
 
+def bounds_fault(covers, value):
+    if not is_tuple(value, len(covers)):
+        return errors.BadBounds(None)
+    return first_wrong(errors.BadBounds, value,
+                       lambda pair: is_tuple_from_to(pair, 2, -50, 50) and list(pair) == sorted(pair))
+
+
+def choices_fault(covers, value):
+    if not is_tuple(value, len(covers)):
+        return errors.BadChoices(None)
+    return first_wrong(errors.BadChoices, value, are_some_worths)
+
+
+def are_some_worths(value):
+    if not isinstance(value, tuple) or len(value) not in (1, 2, 3):
+        return False
+    return is_tuple_from_to(value, len(value), -50, 50) and list(value) == sorted(set(value))
+
+
+def probes_fault(covers, value):
+    if not isinstance(value, tuple) or len(value) > 12:
+        return errors.BadProbes(None)
+    return first_wrong(errors.BadProbes, value, lambda entry: is_tuple(entry, 3) and is_one_of(
+        entry, [(word, block, worth) for word in ("told", "changed")
+                for block in range(len(covers)) for worth in range(-50, 51)]))
+
+
+def added_fault(covers, value):
+    """That of refills which with the worths that the calls tell are worths of the doubled ground."""
+    if not is_tuple_from_to(value, len(covers), -50, 50):
+        return errors.BadRefills()
+    fits = all(is_from_to(worth + refill, -50, 50) for worth, refill in zip(calls.WORTHS, value))
+    return None if fits else errors.TooHigh()
+
+
 FAULTS = {
     "any": lambda shape, value: None,
     "ground": fault_unless(lambda covers, value: isinstance(value, Ground), errors.BadGround),
@@ -205,6 +240,11 @@ FAULTS = {
     "profile": fault_unless(lambda shape, value: is_one_of(value, plain.profiles(*shape)), errors.BadProfile),
     "limits": fault_unless(lambda shape, value: are_depths(shape[0], value), errors.BadLimits),
     "cells": lambda shape, value: pit_fault(plain.covers_of(*shape), value),
+    "doubled_pit": lambda covers, value: pit_fault(plain.doubled(covers), value),
+    "bounds": bounds_fault,
+    "choices": choices_fault,
+    "many": fault_of_number(errors.BadMany, 0, 10),
+    "probes": probes_fault,
     "seen": seen_fault,
     "profiles": profiles_fault,
     "wanted": wanted_fault,
@@ -219,5 +259,6 @@ FAULTS = {
     "free_column": fault_unless(lambda shape, value: is_from_to(value, 0, len(shape[0]) - 1), errors.BadColumn),
     # What is dug is all, so whatever pit lies within.
     "open": pit_fault,
+    "added": added_fault,
 }
-HANGING = {"number", "row", "sharing", "turns", "depth", "free_column", "open"}
+HANGING = {"number", "row", "sharing", "turns", "depth", "free_column", "open", "added"}

@@ -176,6 +176,41 @@ def rates_of(covers, gains, costs):
             for block in range(len(covers))]
 
 
+# The plain ways for doubled grounds, and for cases of bounds or choices.
+
+def doubled(covers):
+    """The covers of a doubled ground, by names of its blocks."""
+    names = [(word, block) for block in range(len(covers)) for word in ("dug", "open")]
+    found = []
+    for word, block in names:
+        firsts = [(word, first) for first in covers[block]] + ([("dug", block)] if word == "open" else [])
+        found.append(tuple(sorted(names.index(first) for first in firsts)))
+    return tuple(found)
+
+
+def cases_of(choices):
+    return list(product(*choices))
+
+
+def known_pits(covers, choices):
+    """The pits that are best in all cases."""
+    best = [set(best_pits(covers, case)) for case in cases_of(choices)]
+    return [pit for pit in pits_of(covers) if all(pit in some for some in best)]
+
+
+def some_choices(dice, many, cases):
+    """Choices of at most so many cases."""
+    width, found = dice.choice((2, 3, 6, 50)), []
+    for _ in range(many):
+        worths = dice.sample(range(-width, width + 1), dice.choice((1, 1, 2, 3)))
+        if len(worths) > cases:
+            worths = worths[:1]
+        cases //= len(worths)
+        found.append(tuple(sorted(worths)))
+    dice.shuffle(found)
+    return tuple(found)
+
+
 # The plain ways for arms and tables.
 
 class Digging:

@@ -176,6 +176,56 @@ raises BadPeriods(index=1)
 [2, ((0, 1, 2), ()), ((0, 1, 2), ())]
 >>> [best_after(ground, (-4, 1, -3), (2, 0, 0), (0,)), least_after(ground, (-4, 1, -3), (2, 0, 0), (0,))]
 [3, ((0, 1), ())]
+
+>>> from pitlots.doubling import as_pit, doubled, doubled_worths, of_pit
+>>> from pitlots.grounds import Ground
+>>> ground = Ground(((), (0,)))
+>>> [doubled(ground).covers, doubled_worths(ground, (-4, 3), (2, -1)), as_pit(ground, (0, 1), (0,)), of_pit(ground, (0, 1, 2))]
+[((), (0,), (0,), (1, 2)), (-2, -2, 2, 1), (0, 1, 2), ((0, 1), (0,))]
+>>> of_pit(ground, (1,))
+raises NotPit()
+
+>>> from pitlots.changes import back_row, back_worth, best_from, least_from, never_begun, regret
+>>> from pitlots.grounds import Ground
+>>> ground = Ground(((), (0,), (0,)))
+>>> [best_from(ground, (-4, 1, 2), (0,)), least_from(ground, (-4, 1, 2), (0,)), regret(ground, (-4, 1, 2), (0,)), never_begun(ground, (-4, 1, 2), (0,))]
+[-1, (0, 1, 2), 1, (0,)]
+>>> [back_row(ground, (0, 1), (0, 2)), back_row(ground, (0, 1), ()), back_worth(ground, (-4, 1, 2), (0, 5, 0), (0, 1), (0, 2))]
+[(('dig', 2), ('fill', 1)), (('fill', 1), ('fill', 0)), 7]
+
+>>> from pitlots.bounds import fates_whatever, is_possible, is_sure, possible_pits, shows_sure, sure_pits, sure_verdict
+>>> from pitlots.grounds import Ground
+>>> ground, wide, good = Ground(((), (0,))), ((-3, -1), (2, 4)), ((-3, -1), (4, 5))
+>>> [is_sure(ground, wide, (0, 1)), is_possible(ground, wide, (0, 1)), possible_pits(ground, wide), sure_pits(ground, wide), fates_whatever(ground, wide)]
+[False, True, [(), (0, 1)], [], ('may', 'may')]
+>>> [sure_pits(ground, good), fates_whatever(ground, good), sure_verdict(ground, good, (0, 1)), shows_sure(ground, good, (0, 1), ("sure", ((1, 0, 3),)))]
+[[(0, 1)], ('must', 'must'), ('sure', ((1, 0, 3),)), True]
+>>> [shows_sure(ground, wide, (), sure_verdict(ground, wide, ())), shows_sure(ground, wide, (), ("case", (-1, 4), (0, 1))), shows_sure(ground, wide, (), ("case", (-1, 5), (0, 1)))]
+[True, True, False]
+>>> is_sure(ground, ((-3, -1), (4, 3)), ())
+raises BadBounds(index=1)
+
+>>> from pitlots.choices import count_cases, known_best, least_regret, worst_regret
+>>> from pitlots.grounds import Ground
+>>> ground, choices = Ground(((), (0,))), ((-3, -1), (2, 4))
+>>> [count_cases(ground, choices), known_best(ground, choices), known_best(ground, ((-1,), (2, 4))), worst_regret(ground, choices, ()), least_regret(ground, choices)]
+[4, None, (0, 1), 3, (1, (0, 1))]
+
+>>> from pitlots.grounds import Ground
+>>> from pitlots.probing import best_probe, fewest_probes, probe_plan, shows_probe_plan
+>>> ground, choices = Ground(((), (0,))), ((-3, -1), (2, 4))
+>>> [fewest_probes(ground, choices), best_probe(ground, choices), probe_plan(ground, ((-1,), (2, 4))), best_probe(ground, ((-1,), (2, 4)))]
+[2, 0, ('dig', (0, 1)), None]
+>>> [shows_probe_plan(ground, choices, 2, probe_plan(ground, choices)), shows_probe_plan(ground, choices, 1, probe_plan(ground, choices)), shows_probe_plan(ground, ((-1,), (2, 4)), 0, ("dig", ()))]
+[True, False, False]
+
+>>> from pitlots.grounds import Ground
+>>> from pitlots.probelogs import first_against, left_by
+>>> ground, choices = Ground(((), (0,))), ((-3, -1), (2, 4))
+>>> [left_by(ground, choices, (("told", 0, -3), ("changed", 1, 9))), left_by(ground, choices, (("told", 0, 0),)), first_against(ground, choices, (("changed", 0, 5), ("told", 0, -3)))]
+[((-3,), (9,)), None, 1]
+>>> left_by(ground, choices, (("told", 0, -3), ("told", 2, 4)))
+raises BadProbes(index=1)
 """
 
 
