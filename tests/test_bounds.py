@@ -169,6 +169,8 @@ class VerdictsTest(unittest.TestCase):
                              ((), False), ([(1, 0, 3)], False), (((1, 0, True),), False), (None, False),
                              (((1, 0, 3), (1, 0, 3)), False), (((0, 1, 3),), False)):
             self.assertIs(shows_sure(GROUND, GOOD, (0, 1), ("sure", paid)), answer)
+        for word in ("best", "case", "Sure", b"sure", ("sure",), None, True):
+            self.assertIs(shows_sure(GROUND, GOOD, (0, 1), (word, ((1, 0, 3),))), False)
         # For the empty pit block 1 must pay all its 5, but 0 gets no more than 1 at its most.
         self.assertIs(shows_sure(GROUND, GOOD, (), ("sure", ((1, 0, 1),))), False)
         self.assertIs(shows_sure(GROUND, ((-5, -4), (2, 4)), (), ("sure", ((1, 0, 4),))), True)
