@@ -62,6 +62,11 @@ def next_within(covers, pit, whole):
     return [block for block in lot_of(whole & ~pit) if mask_of(covers[block]) & ~pit == 0]
 
 
+def is_free(covers, dug, block):
+    """Whether a block is not dug, and all that it needs is."""
+    return not dug >> block & 1 and mask_of(covers[block]) & ~dug == 0
+
+
 def in_order(lots):
     """The list of some lots, the smaller first, those of one size ascending."""
     return sorted(lots, key=order_key)

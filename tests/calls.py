@@ -23,6 +23,10 @@ BOUNDS = ((-4, -2), (-3, -3), (8, 9), (0, 2))
 CHOICES = ((-4,), (-3,), (5, 9), (0, 2))
 PLAN = (2, ((5, ("dig", ())), (9, ("dig", WHOLE))))
 PROBES = (("told", 2, 9), ("changed", 1, 7), ("told", 0, -4))
+OWNERS, SPLIT = (0, 0, 1, 2), (0, 2, 2, 0)
+OTHER_COVERS, SHARED, MORE = ((), (0,), (0,)), ((1, 0), (3, 2)), (1, -2, 5)
+OTHER = Ground(OTHER_COVERS)
+LOG = (("dug", 0), ("lost",), ("not", 3), ("lost",))
 
 TOLD = (
     ("grounds", "cover", "ground block", "ground block", (2,)),
@@ -150,6 +154,40 @@ TOLD = (
     ("probing", "shows_probe_plan", "ground choices many value", "ground choices many any", (CHOICES, 1, PLAN)),
     ("probelogs", "left_by", "ground choices probes", "ground choices probes", (CHOICES, PROBES)),
     ("probelogs", "first_against", "ground choices probes", "ground choices probes", (CHOICES, PROBES)),
+    ("knowing", "sum_known", "ground choices", "ground choices", (CHOICES,)),
+    ("knowing", "sum_unknown", "ground choices", "ground choices", (CHOICES,)),
+    ("knowing", "knowing", "ground choices", "ground choices", (CHOICES,)),
+    ("knowing", "knowing_block", "ground choices block", "ground choices block", (CHOICES, 2)),
+    ("leases", "gain_of", "ground worths owners party", "ground worths owners party", (WORTHS, OWNERS, (0, 1))),
+    ("leases", "own_pit", "ground worths owners party", "ground worths owners party", (WORTHS, OWNERS, (0, 1))),
+    ("leases", "bend", "ground worths owners one other", "ground worths owners party party",
+     (WORTHS, OWNERS, (0, 1), (0, 2))),
+    ("splits", "holds_for", "ground worths owners split", "ground worths owners split", (WORTHS, OWNERS, SPLIT)),
+    ("splits", "blocker", "ground worths owners split", "ground worths owners split", (WORTHS, OWNERS, (0, 1, 3, 0))),
+    ("splits", "by_order", "ground worths owners turns", "ground worths owners owner_row",
+     (WORTHS, OWNERS, (2, 0, 3, 1))),
+    ("splits", "least_share", "ground worths owners owner", "ground worths owners owner", (WORTHS, OWNERS, 1)),
+    ("splits", "greatest_share", "ground worths owners owner", "ground worths owners owner", (WORTHS, OWNERS, 1)),
+    ("splits", "all_splits", "ground worths owners", "ground worths owners", (WORTHS, OWNERS)),
+    ("joins", "joined", "one other shared", "ground other_ground shared", (OTHER, SHARED)),
+    ("joins", "places", "one other shared", "ground other_ground shared", (OTHER, SHARED)),
+    ("joins", "agreeing_pits", "one other shared", "ground other_ground shared", (OTHER, SHARED)),
+    ("joins", "join_worth", "one other shared worths more", "ground other_ground shared worths more",
+     (OTHER, SHARED, WORTHS, MORE)),
+    ("joins", "best_pair", "one other shared worths more", "ground other_ground shared worths more",
+     (OTHER, SHARED, WORTHS, MORE)),
+    ("drawings", "parted", "ground pit", "ground part", ((0, 1),)),
+    ("drawings", "drawn", "ground lot", "ground together", ((0, 3),)),
+    ("drawings", "drawn_to", "ground lot", "ground together", ((0, 3),)),
+    ("drawings", "pits_with", "ground lot", "ground together", ((0, 3),)),
+    ("drawings", "alike", "one other", "ground other_ground", (Ground(((), (0,), (), (0, 2))),)),
+    ("diglogs", "fits", "ground dig log", "ground dig log", ((0, 1, 3), LOG)),
+    ("diglogs", "digs_of", "ground log", "ground log", (LOG,)),
+    ("diglogs", "count_digs", "ground log", "ground log", (LOG,)),
+    ("diglogs", "first_against", "ground log", "ground log", (LOG + (("dug", 0),),)),
+    ("diglogs", "pits_behind", "ground log", "ground log", (LOG,)),
+    ("diglogs", "surely_dug", "ground log", "ground log", (LOG,)),
+    ("diglogs", "maybe_dug", "ground log", "ground log", (LOG,)),
 )
 
 

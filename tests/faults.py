@@ -26,7 +26,7 @@ PLAIN = (
     (0, [1]), ([0],), ([], []), ({},), (0, {1: 1}), ((((0,),),),), [[[{}]]], ("best", ()), ("better", (0,)),
 )
 
-# Values that nearly fit where deeds, periods, depths, bounds, choices or probes are wanted.
+# Values that nearly fit where deeds, periods, depths, bounds, choices, probes, shared blocks or logs are wanted.
 NEAR = (
     ((), (), (), ()), (("leave",),), ((("leave",),),), ((("leave",),) * 5,), ((("leave",),) * 6,), ((("leave", 0),),),
     ((("dig", 0),),), ((("dig", 4),),), ((), (("dig", 0), ("dig", -1))), ((("dig", True),),), ((("dig",),),),
@@ -56,6 +56,16 @@ NEAR = (
     (("changed", 3, 51),), (("changed", 3, -50), ("changed", 3, -51)), (("told", True, 0),), (("told", 0, True),),
     (("told", 0),), (("told", 0, 0, 0),), (["told", 0, 0],), [("told", 0, 0)], (("tell", 0, 0),), ("told", 0, 0),
     ("dig", (0, 1, 2, 3)), ("dig", ()), ("sure", ()), ("sure", None), ("case", (0, 0, 0, 0), ()), (0, ()), (True, ()),
+    ((0, 0), (1, 1)), ((0, 1), (3, 2)), ((0, 0), (1, 0)), ((0, 0), (0, 1)), ((1, 1), (0, 0)), ((3, 2),), ((4, 2),),
+    ((3, 3),), ((2, 1), (3, -1)), ((0, True),), ((False, 0),), ([0, 0],), [(0, 0)], ((0, 0, 0),), ((0, 1), (1, 0)),
+    ((0, 1), (2, 0)), ((0, 0), None), ("00",), (("0", 0),),
+    (0, 1, 2), (0, 1, 2, 2), (0, 0, 0, 4), (0, 0, 0, 3), (1, 2, 3), (0, 3), (2, 3, 4), (2, 3), (2,),
+    (0, 2, 1, 1), (0, 2, 2, 0), (0, 2, 1, 0), (1000, -996, 0, 0), (1001, -997, 0, 0), (2, 0, 3, 1), (-1000, 1000, 2, 2),
+    (0, 1, 3, 2), (1, 0, 3, 2), (0, 1, 3), (0, 1, 3, 3), (1, 3), (1, 0, 2, 3), (3, 1), (2, 0, 1),
+    (("dug", 0),), (("dug", 4),), (("dug", 0), ("dug", -1)), (("dug", True),), (("lost",),) * 5, (("lost",),) * 6,
+    (("is", 3),) * 20, (("is", 3),) * 21, (("lost",),) * 4 + (("not", 0), ("lost",), ("lost",)), ("lost",),
+    (("lost", 0),), (("lost",), ["lost"]), (["dug", 0],), [("dug", 0)], (("Dug", 0),), (("is",),), (("not", 0, 0),),
+    (("dug", 0), ("lost",), ("seen", 1)), (("not", None),), (("dug", "0"),), ((),) * 21,
 )
 WRONG = PLAIN + NEAR
 
@@ -213,6 +223,59 @@ def added_fault(covers, value):
     return None if fits else errors.TooHigh()
 
 
+def shared_fault(covers, value):
+    """That of shared blocks of the ground and of the other one that the calls tell."""
+    other = calls.OTHER_COVERS
+    pairs = [(block, twin) for block in range(len(covers)) for twin in range(len(other))]
+    if not isinstance(value, tuple) or not all(is_one_of(pair, pairs) for pair in value):
+        return errors.BadShared()
+    blocks, twins = [block for block, _ in value], [twin for _, twin in value]
+    if blocks != sorted(set(blocks)) or len(set(twins)) < len(twins):
+        return errors.BadShared()
+    return None if plain.join(covers, other, value) else errors.BadJoin()
+
+
+def split_fault(covers, value):
+    """That of splits of what the owners gain by the worths that the calls tell."""
+    if not is_tuple_from_to(value, 4, -1000, 1000):
+        return errors.BadSplit()
+    gain = max(plain.worth(calls.WORTHS, pit) for pit in plain.pits_of(covers))
+    return None if sum(value) == gain else errors.NotWhole()
+
+
+def part_fault(covers, value):
+    return pit_fault(covers, value) or (errors.EmptyLot() if len(value) in (0, len(covers)) else None)
+
+
+def together_fault(covers, value):
+    if not is_lot(covers, value):
+        return errors.BadLot()
+    if value == ():
+        return errors.EmptyLot()
+    beside = [block for block in range(len(covers)) if block not in value]
+    between = [block for block in beside if plain.needed(covers, block) & set(value)
+               and any(block in plain.needed(covers, other) for other in value)]
+    return errors.NotTogether() if between else None
+
+
+def is_dig(covers, value):
+    if not isinstance(value, tuple) or not all(is_from_to(item, 0, len(covers) - 1) for item in value):
+        return False
+    return len(set(value)) == len(value) and plain.is_row(covers, value)
+
+
+def log_fault(covers, value):
+    if not isinstance(value, tuple) or len(value) > 20:
+        return errors.BadLog(None)
+    entries = [(word, block) for word in ("dug", "is", "not") for block in range(len(covers))]
+    lost = 0
+    for index, entry in enumerate(value):
+        lost += is_one_of(entry, [("lost",)])
+        if not is_one_of(entry, entries + [("lost",)]) or lost == 6:
+            return errors.BadLog(index)
+    return None
+
+
 FAULTS = {
     "any": lambda shape, value: None,
     "ground": fault_unless(lambda covers, value: isinstance(value, Ground), errors.BadGround),
@@ -248,6 +311,15 @@ FAULTS = {
     "seen": seen_fault,
     "profiles": profiles_fault,
     "wanted": wanted_fault,
+    "owners": fault_of_row(errors.BadOwners, 0, 3),
+    "party": fault_unless(lambda covers, value: is_lot(range(4), value), errors.BadParty),
+    "owner": fault_of_number(errors.BadOwner, 0, 3),
+    "owner_row": fault_unless(lambda covers, value: is_order(((),) * 4, value, range(4)), errors.BadOwnerRow),
+    "part": part_fault,
+    "together": together_fault,
+    "dig": fault_unless(is_dig, errors.BadDig),
+    "log": log_fault,
+    "other_ground": fault_unless(lambda covers, value: isinstance(value, Ground), errors.BadGround),
     # Those from here on hang on the arguments ahead: they are asked for the arguments that the calls tell alone.
     "number": fault_of_number(errors.BadPlace, 0, 4),
     "row": fault_unless(lambda covers, value: is_order(covers, value, (0, 1, 2, 3)), errors.BadRow),
@@ -260,5 +332,8 @@ FAULTS = {
     # What is dug is all, so whatever pit lies within.
     "open": pit_fault,
     "added": added_fault,
+    "split": split_fault,
+    "shared": shared_fault,
+    "more": lambda covers, value: None if is_tuple_from_to(value, 3, -50, 50) else errors.BadWorths(),
 }
-HANGING = {"number", "row", "sharing", "turns", "depth", "free_column", "open", "added"}
+HANGING = {"number", "row", "sharing", "turns", "depth", "free_column", "open", "added", "split", "shared", "more"}

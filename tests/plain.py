@@ -211,6 +211,111 @@ def some_choices(dice, many, cases):
     return tuple(found)
 
 
+# The plain ways for owners.
+
+PARTIES = [party for size in range(5) for party in combinations(range(4), size)]
+
+
+def pits_alone(covers, owners, party):
+    return [pit for pit in pits_of(covers) if all(owners[block] in party for block in pit)]
+
+
+def gain(covers, worths, owners, party):
+    return max(worth(worths, pit) for pit in pits_alone(covers, owners, party))
+
+
+def some_owners(dice, many):
+    """Owners of which some are often without blocks."""
+    few = dice.sample(range(4), dice.randint(1, 4))
+    return tuple(dice.choice(few) for _ in range(many))
+
+
+# The plain ways for joins and drawings: grounds as dicts from names to the sets of names that are needed first.
+
+def first_of(firsts):
+    """All names in the least order, the dict's own order telling which is first; None if some need one another."""
+    found = []
+    while len(found) < len(firsts):
+        for name in firsts:
+            if name not in found and firsts[name] <= set(found):
+                found.append(name)
+                break
+        else:
+            return None
+    return found
+
+
+def covers_in(firsts, order):
+    return tuple(tuple(sorted(order.index(first) for first in firsts[name])) for name in order)
+
+
+def join(one, other, shared):
+    """The names of a join in its order, with what they need first; None if there is a ring."""
+    twins = {("other", twin): ("one", block) for block, twin in shared}
+    firsts = {("one", block): {("one", first) for first in needs} for block, needs in enumerate(one)}
+    for block, needs in enumerate(other):
+        name = twins.get(("other", block), ("other", block))
+        firsts.setdefault(name, set()).update(twins.get(("other", first), ("other", first)) for first in needs)
+    order = first_of(firsts)
+    return order and (order, firsts)
+
+
+# The plain ways for digs and logs.
+
+DIGS = {}
+
+
+def digs_of(covers):
+    """All digs, ascending; kept, since many tests ask."""
+    if covers not in DIGS:
+        found, level = [], [()]
+        while level:
+            found += level
+            level = [dig + (block,) for dig in level for block in range(len(covers))
+                     if block not in dig and needed(covers, block) <= set(dig)]
+        DIGS[covers] = sorted(found)
+    return DIGS[covers]
+
+
+def unlike(dig, log):
+    """The indexes of the entries of a log that a dig is unlike, None if it is of another length."""
+    found, place = [], 0
+    for index, entry in enumerate(log):
+        if entry[0] in ("dug", "lost"):
+            if place == len(dig):
+                return None
+            if entry[0] == "dug" and entry[1] != dig[place]:
+                found.append(index)
+            place += 1
+        elif (entry[1] in dig[:place]) != (entry[0] == "is"):
+            found.append(index)
+    return tuple(found) if place == len(dig) else None
+
+
+def fitting(covers, log):
+    """All digs that fit a log, ascending."""
+    return [dig for dig in digs_of(covers) if unlike(dig, log) == ()]
+
+
+def some_log(dice, covers, wrong):
+    """A log of some dig, with gaps; each entry is another one with a chance of wrong in ten."""
+    log, dug, lost = [], [], 0
+    for block in dice.choice(digs_of(covers)):
+        while dice.randint(0, 2) == 0 and len(log) < 18:
+            seen = dice.randrange(len(covers))
+            log.append(("is" if seen in dug else "not", seen))
+        if dice.randint(0, 1) == 0 and lost < 5:
+            log.append(("lost",))
+            lost += 1
+        else:
+            log.append(("dug", block))
+        dug.append(block)
+    for index, entry in enumerate(log):
+        if entry != ("lost",) and dice.randint(1, 10) <= wrong:
+            log[index] = (dice.choice(("dug", "is", "not")), dice.randrange(len(covers)))
+    return tuple(log)
+
+
 # The plain ways for arms and tables.
 
 class Digging:

@@ -226,6 +226,55 @@ raises BadBounds(index=1)
 [((-3,), (9,)), None, 1]
 >>> left_by(ground, choices, (("told", 0, -3), ("told", 2, 4)))
 raises BadProbes(index=1)
+
+>>> from pitlots.grounds import Ground
+>>> from pitlots.knowing import knowing, knowing_block, sum_known, sum_unknown
+>>> ground, choices = Ground(((), (0,))), ((-3, -1), (2, 4))
+>>> [sum_known(ground, choices), sum_unknown(ground, choices), knowing(ground, choices), knowing_block(ground, choices, 0), knowing_block(ground, ((-9, -1), (2, 4)), 0)]
+[5, 4, 1, 0, 4]
+
+>>> from pitlots.grounds import Ground
+>>> from pitlots.leases import bend, gain_of, own_pit
+>>> ground, worths, owners = Ground(((), (), (0, 1), (1,))), (-2, -3, 8, 4), (0, 0, 1, 2)
+>>> [gain_of(ground, worths, owners, (0, 1)), gain_of(ground, worths, owners, (1, 2)), own_pit(ground, worths, owners, (0, 2)), bend(ground, worths, owners, (0, 1), (0, 2))]
+[3, 0, (1, 3), 3]
+
+>>> from pitlots.grounds import Ground
+>>> from pitlots.splits import all_splits, blocker, by_order, greatest_share, holds_for, least_share
+>>> ground, worths, owners = Ground(((), (), (0, 1), (1,))), (-2, -3, 8, 4), (0, 0, 1, 2)
+>>> [by_order(ground, worths, owners, (0, 1, 2, 3)), holds_for(ground, worths, owners, (0, 3, 4, 0)), blocker(ground, worths, owners, (0, 2, 5, 0))]
+[(0, 3, 4, 0), True, (0, 1)]
+>>> [least_share(ground, worths, owners, 1), greatest_share(ground, worths, owners, 1), len(all_splits(ground, worths, owners))]
+[0, 6, 29]
+
+>>> from pitlots.grounds import Ground
+>>> from pitlots.joins import agreeing_pits, best_pair, join_worth, joined, places
+>>> one, other = Ground(((), (0,))), Ground(((), (), (0, 1)))
+>>> [joined(one, other, ((0, 2),)).covers, places(one, other, ((0, 2),))]
+[((), (), (0, 1), (2,)), ((2, 3), (0, 1, 2))]
+>>> [agreeing_pits(one, other, ((0, 1),)), join_worth(one, other, ((0, 1),), (-2, 5), (-1, -1, 3)), best_pair(one, other, ((0, 1),), (-2, 5), (-1, -1, 3))]
+[[((), ()), ((0,), (1,)), ((), (0,)), ((0, 1), (1,)), ((0,), (0, 1)), ((0, 1), (0, 1)), ((0,), (0, 1, 2)), ((0, 1), (0, 1, 2))], 4, ((0, 1), (0, 1, 2))]
+>>> joined(one, one, ((0, 1), (1, 0)))
+raises BadJoin()
+
+>>> from pitlots.drawings import alike, drawn, drawn_to, parted, pits_with
+>>> from pitlots.grounds import Ground
+>>> ground = Ground(((), (), (0, 1), (1,)))
+>>> [[part.covers for part in parted(ground, (0, 1))], drawn(ground, (0, 3)).covers, drawn_to(ground, (0, 3)), pits_with(ground, (0, 3))]
+[[((), ()), ((), ())], ((), (0,), (0, 1)), (1, 0, 2, 1), [(), (1,), (0, 1, 3), (0, 1, 2, 3)]]
+>>> [alike(ground, Ground(((), (0,), (), (0, 2)))), alike(ground, Ground(((), (0,), (0,), (0, 2))))]
+[(1, 3, 0, 2), None]
+>>> drawn(Ground(((), (0,), (1,))), (0, 2))
+raises NotTogether()
+
+>>> from pitlots.diglogs import count_digs, digs_of, first_against, fits, maybe_dug, pits_behind, surely_dug
+>>> from pitlots.grounds import Ground
+>>> ground = Ground(((), (), (0,), (0, 1)))
+>>> log = (("dug", 0), ("lost",), ("not", 3), ("lost",))
+>>> [digs_of(ground, log), count_digs(ground, log), fits(ground, (0, 1, 3), log), fits(ground, (1, 0, 2), log)]
+[[(0, 1, 2), (0, 1, 3), (0, 2, 1)], 3, True, False]
+>>> [pits_behind(ground, log), surely_dug(ground, log), maybe_dug(ground, log), first_against(ground, log + (("dug", 0),))]
+[[(0, 1, 2), (0, 1, 3)], (0, 1), (0, 1, 2, 3), 4]
 """
 
 

@@ -13,12 +13,12 @@ from tests import calls, faults, plain
 
 LISTS = """
     all_pits next_blocks last_blocks all_best ladder layers pits_by_year arms_next arms_pits all_profiles held_by
-    open_columns ridges sure_pits possible_pits
+    open_columns ridges sure_pits possible_pits all_splits agreeing_pits pits_with digs_of pits_behind
 """.split()
 # The calls of these in calls.CALLS are told a value that is shown.
 SHOWN = """
     is_pit shows_chain are_payments shows_best shows_verdict shows_sharing shows_purse are_pairs is_profile is_flatter
-    can_refill is_sure is_possible shows_sure shows_probe_plan
+    can_refill is_sure is_possible shows_sure shows_probe_plan holds_for fits
 """.split()
 # Those of faults.WRONG that are what a function asks of any value whether it is; of no others is that so.
 TRUE_OF_ANY = {
@@ -164,7 +164,7 @@ class OrderTest(unittest.TestCase):
     def test_a_lot_that_is_no_pit_stands_in_its_place(self):
         for call in calls.CALLS:
             for place, kind in enumerate(call.kinds):
-                if kind in ("pit", "open", "cells", "doubled_pit"):
+                if kind in ("pit", "open", "cells", "doubled_pit", "part"):
                     for pit, error in (((3,), errors.NotPit), ((3, 1), errors.BadLot), ((2, 9), errors.BadLot)):
                         for behind in ("fits", "wrong"):
                             rest = call.arguments[place + 1:]

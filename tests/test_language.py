@@ -131,6 +131,9 @@ class LanguageTest(unittest.TestCase):
             for node in nodes_of(path, ast.Call):
                 if isinstance(node.func, ast.Name) and node.func.id in takers and node.args:
                     at_once.add(ast.dump(node.args[0], include_attributes=True))
+                # Of these just a range can be reversed.
+                if ast.unparse(node).startswith("reversed(range("):
+                    at_once.add(ast.dump(node.args[0], include_attributes=True))
             for node in nodes_of(path, ast.Call):
                 name = node.func.id if isinstance(node.func, ast.Name) else getattr(node.func, "attr", "")
                 if name in AT_ONCE | {"items", "keys", "values"}:
