@@ -1,4 +1,4 @@
-"""All errors of the package, also those of points that are not built yet."""
+"""All errors of the package."""
 
 
 class PitError(ValueError):

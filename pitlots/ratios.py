@@ -32,6 +32,15 @@ def least_fraction(fractions):
     return least
 
 
+def greatest_fraction(fractions):
+    """The greatest of some fractions, at least one."""
+    greatest = fractions[0]
+    for fraction in fractions:
+        if is_less(greatest, fraction):
+            greatest = fraction
+    return greatest
+
+
 def sum_fraction(fractions):
     """The sum of some fractions."""
     above, beneath = 0, 1

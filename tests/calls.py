@@ -27,6 +27,8 @@ OWNERS, SPLIT = (0, 0, 1, 2), (0, 2, 2, 0)
 OTHER_COVERS, SHARED, MORE = ((), (0,), (0,)), ((1, 0), (3, 2)), (1, -2, 5)
 OTHER = Ground(OTHER_COVERS)
 LOG = (("dug", 0), ("lost",), ("not", 3), ("lost",))
+HAULS = (("put", 0, 0), ("put", 1, 0), ("move", 0, 4, 1), ("put", 3, 0), ("move", 0, 1, 2))
+SHARES = ((3, 1), (1, 2), (1, 2), (0, 1))
 
 TOLD = (
     ("grounds", "cover", "ground block", "ground block", (2,)),
@@ -188,6 +190,26 @@ TOLD = (
     ("diglogs", "pits_behind", "ground log", "ground log", (LOG,)),
     ("diglogs", "surely_dug", "ground log", "ground log", (LOG,)),
     ("diglogs", "maybe_dug", "ground log", "ground log", (LOG,)),
+    ("logmends", "doubted", "ground log", "ground log", ((("dug", 2), ("dug", 0), ("is", 2)),)),
+    ("logmends", "mended", "ground log", "ground log", ((("dug", 2), ("dug", 0), ("is", 2)),)),
+    ("hauls", "loads", "ground hauls", "ground hauls", (HAULS,)),
+    ("hauls", "may_lie", "ground hauls block", "ground hauls block", (HAULS, 0)),
+    ("hauls", "recalled", "ground hauls lot", "ground hauls lot", (HAULS, (0, 3))),
+    ("hauls", "spoilt", "ground hauls lot", "ground hauls lot", (HAULS, (0, 3))),
+    ("hauls", "way_to", "ground hauls block heap", "ground hauls block heap", (HAULS, 0, 4)),
+    ("hauls", "shows_way", "ground hauls block value", "ground hauls block any", (HAULS, 0, (0, 0, 0, 0, 1))),
+    ("hauls", "spoilt_range", "ground hauls lot heap", "ground hauls lot heap", (HAULS, (0, 3), 1)),
+    ("texts", "write", "ground worths", "ground worths", (WORTHS,)),
+    ("averages", "shares_hold", "ground worths owners value", "ground worths owners any", (WORTHS, OWNERS, SHARES)),
+    ("averages", "average_split", "ground worths owners", "ground worths owners", (WORTHS, OWNERS)),
+    ("fairness", "fair_split", "ground worths owners", "ground worths owners", (WORTHS, OWNERS)),
+    ("fairness", "fair_ladder", "ground worths owners", "ground worths owners", (WORTHS, OWNERS)),
+    ("fairness", "tight_parties", "ground worths owners shares", "ground worths owners shares",
+     (WORTHS, OWNERS, SHARES)),
+    ("fairness", "spare", "ground worths owners shares one other", "ground worths owners shares owner owner",
+     (WORTHS, OWNERS, SHARES, 0, 2)),
+    ("fairness", "first_unfair", "ground worths owners shares", "ground worths owners shares",
+     (WORTHS, OWNERS, SHARES)),
 )
 
 

@@ -26,7 +26,8 @@ PLAIN = (
     (0, [1]), ([0],), ([], []), ({},), (0, {1: 1}), ((((0,),),),), [[[{}]]], ("best", ()), ("better", (0,)),
 )
 
-# Values that nearly fit where deeds, periods, depths, bounds, choices, probes, shared blocks or logs are wanted.
+# Values that nearly fit where deeds, periods, depths, bounds, choices, probes, shared blocks, logs, hauls or shares are
+# wanted.
 NEAR = (
     ((), (), (), ()), (("leave",),), ((("leave",),),), ((("leave",),) * 5,), ((("leave",),) * 6,), ((("leave", 0),),),
     ((("dig", 0),),), ((("dig", 4),),), ((), (("dig", 0), ("dig", -1))), ((("dig", True),),), ((("dig",),),),
@@ -66,6 +67,23 @@ NEAR = (
     (("is", 3),) * 20, (("is", 3),) * 21, (("lost",),) * 4 + (("not", 0), ("lost",), ("lost",)), ("lost",),
     (("lost", 0),), (("lost",), ["lost"]), (["dug", 0],), [("dug", 0)], (("Dug", 0),), (("is",),), (("not", 0, 0),),
     (("dug", 0), ("lost",), ("seen", 1)), (("not", None),), (("dug", "0"),), ((),) * 21,
+    (("put", 0, 0),), (("put", 0, 4), ("put", 1, 5)), (("put", 4, 0),), (("put", 1, 3), ("put", 3, 0), ("put", 2, 0)),
+    (("put", 0, 0), ("put", 0, 0)), (("put", 0, 0), ("move", 0, 1, 1)), (("put", 0, 0), ("move", 0, 1, 2)),
+    (("put", 0, 0), ("move", 0, 0, 1)), (("put", 0, 4), ("move", 4, 0, 1)), (("put", 0, 0), ("move", 0, 1, 0)),
+    (("put", 0, 0), ("move", 0, 5, 1)), (("put", 0, 0), ("move", 1, 0, 1)), (("put", 0, 0), ("move", 0, 1, True)),
+    (("put", True, 0),), (("put", 0, False),), (("put", 0),), (["put", 0, 0],), [("put", 0, 0)], (("dug", 0, 0),),
+    (("put", 0, 0), ("move", 0, 1)), (("put", 0, 0), ("move", 0, "1", 1)), (("put", 0, 0), ("move", False, 1, 1)),
+    (("put", 0, 0),) + (("move", 0, 1, 1), ("move", 1, 0, 1)) * 7 + (("put", 1, 0),),
+    (("put", 0, 0),) + (("move", 0, 1, 1), ("move", 1, 0, 1)) * 8, ((),) * 16, ((),) * 17,
+    (("put", 0, 0),) + (("move", 0, 1, 1),) * 2, (0, 0, 4, 4, 4), (0, 0, 0, 0, 1), (0, 0, 0, 4, 4), (0, 0, 4, 4),
+    (0, 0, 4, 4, 4, 4), [0, 0, 4, 4, 4], (False, 0, 4, 4, 4), (0, 0, 0, 0, 0), (0, 0, 4, 4, True), (0, 0, 4, 4, 1),
+    ((2, 1), (1, 1), (1, 1), (0, 1)), ((1, 1), (1, 1), (1, 1), (0, 1)), ((3, 2), (1, 2), (2, 1), (0, 1)),
+    ((1, 1), (1, 2), (5, 2), (0, 1)),
+    ((4, 1), (-1, 1), (1, 1), (0, 1)), ((2, 1), (2, 2), (1, 1), (0, 1)), ((2, 1), (1, 1), (1, 1), (0, 2)),
+    ((2, 1), (1, 1), (1, 1)), [(2, 1), (1, 1), (1, 1), (0, 1)], ((2, 1), (1, 1), [1, 1], (0, 1)), ((0, 1),) * 4,
+    ((2, 1), (1, 1), (True, 1), (0, 1)), ((2, 1), (1, 1), (1, True), (0, 1)), ((2, 1), (1, 1), (1, 1), (0, -1)),
+    ((2, 1), (1, 1), (1, 1), (0, 0)), ((2, 1), (1, 1), (1, 1), 0), ((2, 1), (1, 1), (1, 1), (0, 1, 1)), ((1, 1),) * 4,
+    ((10 ** 400, 1), (4 - 10 ** 400, 1), (0, 1), (0, 1)), ((13, 4), (7, 4), (-1, 1), (0, 1)), ((0, 1),) * 5,
 )
 WRONG = PLAIN + NEAR
 
@@ -276,6 +294,42 @@ def log_fault(covers, value):
     return None
 
 
+def hauls_fault(covers, value):
+    if not isinstance(value, tuple) or len(value) > 16:
+        return errors.BadHauls(None)
+    heaps = [0] * 5
+    for index, haul in enumerate(value):
+        put = {block for word, block, *_ in value[:index] if word == "put"}
+        fits = [("put", block, heap) for block in range(len(covers)) for heap in range(5)
+                if block not in put and plain.needed(covers, block) <= put]
+        fits += [("move", heap, other, many) for heap in range(4) for other in range(5) if heap != other
+                 for many in range(1, heaps[heap] + 1)]
+        if not is_one_of(haul, fits):
+            return errors.BadHauls(index)
+        heaps[haul[2]] += 1 if haul[0] == "put" else haul[3]
+        if haul[0] == "move":
+            heaps[haul[1]] -= haul[3]
+    return None
+
+
+def is_lowest(value):
+    """Whether a value is a fraction."""
+    if not isinstance(value, tuple) or len(value) != 2 or not all(is_integer(part) for part in value):
+        return False
+    return value[1] > 0 and plain.pair(plain.fraction_of(value)) == value
+
+
+def shares_fault(covers, value):
+    """That of shares of what the owners gain by the worths that the calls tell."""
+    if not is_tuple(value, 4) or not all(is_lowest(share) for share in value):
+        return errors.BadShares()
+    gains = {party: plain.gain(covers, calls.WORTHS, calls.OWNERS, party) for party in plain.PARTIES}
+    sums = {party: sum(plain.fraction_of(value[owner]) for owner in party) for party in plain.PARTIES}
+    if sums[0, 1, 2, 3] != gains[0, 1, 2, 3]:
+        return errors.NotWhole()
+    return None if all(gains[party] <= sums[party] for party in gains) else errors.NotHeld()
+
+
 FAULTS = {
     "any": lambda shape, value: None,
     "ground": fault_unless(lambda covers, value: isinstance(value, Ground), errors.BadGround),
@@ -319,6 +373,8 @@ FAULTS = {
     "together": together_fault,
     "dig": fault_unless(is_dig, errors.BadDig),
     "log": log_fault,
+    "hauls": hauls_fault,
+    "heap": fault_of_number(errors.BadHeap, 0, 4),
     "other_ground": fault_unless(lambda covers, value: isinstance(value, Ground), errors.BadGround),
     # Those from here on hang on the arguments ahead: they are asked for the arguments that the calls tell alone.
     "number": fault_of_number(errors.BadPlace, 0, 4),
@@ -333,7 +389,9 @@ FAULTS = {
     "open": pit_fault,
     "added": added_fault,
     "split": split_fault,
+    "shares": shares_fault,
     "shared": shared_fault,
     "more": lambda covers, value: None if is_tuple_from_to(value, 3, -50, 50) else errors.BadWorths(),
 }
-HANGING = {"number", "row", "sharing", "turns", "depth", "free_column", "open", "added", "split", "shared", "more"}
+HANGING = {"number", "row", "sharing", "turns", "depth", "free_column", "open", "added", "split", "shared", "more",
+           "shares"}

@@ -301,7 +301,7 @@ def some_log(dice, covers, wrong):
     """A log of some dig, with gaps; each entry is another one with a chance of wrong in ten."""
     log, dug, lost = [], [], 0
     for block in dice.choice(digs_of(covers)):
-        while dice.randint(0, 2) == 0 and len(log) < 18:
+        while dice.randint(0, 4) < 2 and len(log) < 15:
             seen = dice.randrange(len(covers))
             log.append(("is" if seen in dug else "not", seen))
         if dice.randint(0, 1) == 0 and lost < 5:
@@ -314,6 +314,52 @@ def some_log(dice, covers, wrong):
         if entry != ("lost",) and dice.randint(1, 10) <= wrong:
             log[index] = (dice.choice(("dug", "is", "not")), dice.randrange(len(covers)))
     return tuple(log)
+
+
+# The plain ways for hauls.
+
+def histories(hauls):
+    """All that can have been: lists of what lay on the heaps behind each haul, a tuple of five sets of blocks."""
+    found = [[(frozenset(),) * 5]]
+    for word, *told in hauls:
+        longer = []
+        for history in found:
+            if word == "put":
+                block, heap = told
+                choices = [(heap, heap, {block})]
+            else:
+                heap, other, many = told
+                choices = [(heap, other, set(some)) for some in combinations(sorted(history[-1][heap]), many)]
+            for heap, other, some in choices:
+                heaps = list(history[-1])
+                heaps[heap] -= some
+                heaps[other] |= some
+                longer.append(history + [tuple(heaps)])
+        found = longer
+    return [history[1:] for history in found]
+
+
+def some_hauls(dice, covers, most):
+    """Hauls of which there are at most so many histories."""
+    hauls, many, heaps, length = [], 1, [0] * 5, dice.randint(4, 10)
+    left = list(max([dice.choice(digs_of(covers)) for _ in range(3)], key=len))
+    while len(hauls) < length:
+        full = [heap for heap in range(4) if heaps[heap]]
+        if full and (not left or dice.randint(0, 2)):
+            heap = dice.choice(full)
+            some = dice.choice((1, heaps[heap], dice.randint(1, heaps[heap])))
+            many *= len(list(combinations(range(heaps[heap]), some)))
+            if many > most:
+                break
+            hauls.append(("move", heap, dice.choice([other for other in range(5) if other != heap]), some))
+            heaps[heap] -= some
+        elif left:
+            hauls.append(("put", left.pop(0), dice.choice((0, 0, 1, 2, 4))))
+            some = 1
+        else:
+            break
+        heaps[hauls[-1][2]] += some
+    return tuple(hauls)
 
 
 # The plain ways for arms and tables.

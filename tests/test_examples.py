@@ -2,7 +2,7 @@
 
 import unittest
 
-EXAMPLES = """
+EXAMPLES = r"""
 >>> from pitlots.grounds import Ground, cover, levels, needers, renamed
 >>> ground = Ground(((), (), (0, 1), (1,)))
 >>> [ground.covers, len(ground), cover(ground, 2), needers(ground, 1), levels(ground), renamed(ground, (1, 3, 0, 2)).covers]
@@ -275,6 +275,57 @@ raises NotTogether()
 [[(0, 1, 2), (0, 1, 3), (0, 2, 1)], 3, True, False]
 >>> [pits_behind(ground, log), surely_dug(ground, log), maybe_dug(ground, log), first_against(ground, log + (("dug", 0),))]
 [[(0, 1, 2), (0, 1, 3)], (0, 1), (0, 1, 2, 3), 4]
+
+>>> from pitlots.grounds import Ground
+>>> from pitlots.logmends import doubted, mended
+>>> ground = Ground(((), (), (0,), (0, 1)))
+>>> [doubted(ground, (("dug", 2), ("dug", 0), ("is", 2))), mended(ground, (("dug", 2), ("dug", 0), ("is", 2))), doubted(ground, (("lost",),) * 5)]
+[(0, 1), (0, 2), None]
+
+>>> from pitlots.grounds import Ground
+>>> from pitlots.hauls import loads, may_lie, recalled, shows_way, spoilt, spoilt_range, way_to
+>>> ground = Ground(((), (), (0,), (0, 1)))
+>>> hauls = (("put", 0, 0), ("put", 1, 0), ("move", 0, 4, 1), ("put", 3, 0), ("move", 0, 1, 2))
+>>> [loads(ground, hauls), may_lie(ground, hauls, 0), may_lie(ground, hauls, 3), may_lie(ground, hauls, 2), recalled(ground, hauls, (0, 3))]
+[(0, 2, 0, 0, 1), (1, 4), (1,), (), (1, 4)]
+>>> [spoilt(ground, hauls, (0,)), spoilt(ground, hauls, (0, 3)), spoilt_range(ground, hauls, (0, 3), 1), way_to(ground, hauls, 0, 4), shows_way(ground, hauls, 0, (0, 0, 0, 0, 1))]
+[(), (1,), (1, 2), (0, 0, 4, 4, 4), True]
+
+>>> from pitlots.grounds import Ground
+>>> from pitlots.texts import read, write
+>>> write(Ground(((), (0,))), (5, -3))
+'block 0 worth 5\nblock 1 worth -3 needs 0'
+>>> [read(" block 0  worth 7 ")[0] == Ground(((),)), read("block 0 worth 7")[1]]
+[True, (7,)]
+>>> read("block 0 worth 1\nblock 1 worth 2 needs 1")
+raises InvalidText(line=2, word=6)
+
+>>> from pitlots.desk import Desk
+>>> from pitlots.grounds import Ground
+>>> desk = Desk(Ground(((), (), (0,))), (-2, 1, 5))
+>>> [desk.best(), desk.dig(1), desk.set_worth(2, 1), desk.best(), desk.own_pit, desk.own_log, len(desk)]
+[4, None, None, 1, (1,), (('dug', 1),), 2]
+>>> [desk.undo(), desk.best(), desk.redo(), desk.redo(), desk.add_need(2, 1), desk.own_ground.covers]
+[True, 4, True, False, None, ((), (), (0, 1))]
+
+>>> from pitlots.averages import average_split, shares_hold
+>>> from pitlots.grounds import Ground
+>>> ground, worths, owners = Ground(((), (), (0, 1), (1,))), (-2, -3, 8, 4), (0, 0, 1, 2)
+>>> [average_split(ground, worths, owners), shares_hold(ground, worths, owners, ((7, 2), (3, 1), (1, 2), (0, 1)))]
+[((3, 1), (5, 2), (3, 2), (0, 1)), True]
+>>> [shares_hold(ground, worths, owners, ((0, 1), (2, 1), (5, 1), (0, 1))), shares_hold(ground, worths, owners, (0, 3, 4, 0))]
+[False, False]
+
+>>> from pitlots.fairness import fair_ladder, fair_split, first_unfair, spare, tight_parties
+>>> from pitlots.grounds import Ground
+>>> ground, worths, owners = Ground(((), (), (0, 1), (1,))), (-2, -3, 8, 4), (0, 0, 1, 2)
+>>> [fair_split(ground, worths, owners), fair_ladder(ground, worths, owners)]
+[((7, 3), (7, 3), (7, 3), (0, 1)), [((7, 3), (0, 1, 2)), ((0, 1), (3,))]]
+>>> some = ((4, 1), (3, 1), (0, 1), (0, 1))
+>>> [spare(ground, worths, owners, some, 0, 2), spare(ground, worths, owners, some, 2, 0), first_unfair(ground, worths, owners, some)]
+[(4, 1), (0, 1), (0, 1)]
+>>> tight_parties(ground, worths, owners, ((0, 1), (3, 1), (4, 1), (0, 1)))
+[(), (0,), (3,), (0, 1), (0, 3), (0, 1, 2), (0, 1, 3), (0, 1, 2, 3)]
 """
 
 

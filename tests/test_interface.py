@@ -6,7 +6,8 @@ import inspect
 import itertools
 import unittest
 
-from pitlots import errors
+from pitlots import errors, texts
+from pitlots.desk import Desk
 from pitlots.grounds import Ground
 from pitlots.slopes import Table
 from tests import calls, faults, plain
@@ -14,17 +15,20 @@ from tests import calls, faults, plain
 LISTS = """
     all_pits next_blocks last_blocks all_best ladder layers pits_by_year arms_next arms_pits all_profiles held_by
     open_columns ridges sure_pits possible_pits all_splits agreeing_pits pits_with digs_of pits_behind
+    fair_ladder tight_parties
 """.split()
 # The calls of these in calls.CALLS are told a value that is shown.
 SHOWN = """
     is_pit shows_chain are_payments shows_best shows_verdict shows_sharing shows_purse are_pairs is_profile is_flatter
-    can_refill is_sure is_possible shows_sure shows_probe_plan holds_for fits
+    can_refill is_sure is_possible shows_sure shows_probe_plan holds_for fits shows_way shares_hold
 """.split()
 # Those of faults.WRONG that are what a function asks of any value whether it is; of no others is that so.
 TRUE_OF_ANY = {
     "are_payments": [()],
     "are_pairs": [(), ((0, 1),)],
     "is_profile": plain.profiles(calls.COLUMNS, calls.RULES),
+    "shows_way": [(0, 0, 4, 4, 4), (0, 0, 0, 0, 1)],
+    "shares_hold": [((2, 1), (1, 1), (1, 1), (0, 1)), ((3, 2), (1, 2), (2, 1), (0, 1))],
 }
 # Of these the answer is None, but for the values of faults.WRONG that stand here with theirs.
 NONE_OF_ANY = {"round_count": {}, "worth_by_when": {((), ()): 0}}
@@ -77,12 +81,41 @@ class NamesTest(unittest.TestCase):
                 self.assertEqual(list(inspect.signature(call.function).parameters), call.names)
 
     def test_classes(self):
-        for kind, module, names in ((Ground, "grounds", ["covers"]), (Table, "slopes", ["columns", "rules"])):
+        for kind, module, names, methods in (
+                (Ground, "grounds", ["covers"], "__init__ __eq__ __len__"),
+                (Table, "slopes", ["columns", "rules"], "__init__ __eq__"),
+                (Desk, "desk", ["ground", "worths"],
+                 "__init__ __len__ dig set_worth add_need drop_need undo redo copy best")):
             self.assertEqual(kind.__module__, "pitlots." + module)
             self.assertEqual(list(inspect.signature(kind).parameters), names)
-            for name in ("__init__", "__eq__"):
+            for name in methods.split():
                 self.assertIn(name, vars(kind))
-        self.assertIn("__len__", vars(Ground))
+
+    def test_methods_of_the_desk(self):
+        for name, names in (("dig", ["block"]), ("set_worth", ["block", "worth"]), ("add_need", ["block", "other"]),
+                            ("drop_need", ["block", "other"]), ("undo", []), ("redo", []), ("copy", []), ("best", [])):
+            self.assertEqual(list(inspect.signature(getattr(Desk, name)).parameters), ["self"] + names)
+        desk = Desk(Ground(calls.COVERS), calls.WORTHS)
+        self.assertEqual((desk.own_worths, desk.own_pit, desk.own_log), (calls.WORTHS, (), ()))
+        self.assertEqual(desk.own_ground, Ground(calls.COVERS))
+
+    def test_the_function_of_a_text(self):
+        self.assertTrue(inspect.isfunction(texts.read))
+        self.assertEqual(texts.read.__module__, "pitlots.texts")
+        self.assertEqual(list(inspect.signature(texts.read).parameters), ["text"])
+
+    def test_all_that_the_package_has_for_callers_is_called(self):
+        # Each function that the calls tell stands in the interface; so do these, in the order of its modules.
+        modules = []
+        for call in calls.CALLS:
+            if call.module not in modules:
+                modules.append(call.module)
+        self.assertEqual([module.split(".")[1] for module in modules], """
+            grounds chains pits worths payments prices ladders sharings rows purses rounds twins arms periods slopes
+            depths refills doubling changes bounds choices probing probelogs knowing leases splits joins drawings
+            diglogs logmends hauls texts averages fairness
+        """.split())
+        self.assertEqual(len(calls.CALLS), len({call.title() for call in calls.CALLS}))
 
     def test_by_keywords(self):
         for call in calls.CALLS:

@@ -94,8 +94,8 @@ class LeasesTest(unittest.TestCase):
         self.assertEqual(gain_of(GROUND, WORTHS, (3, 3, 3, 3), (3,)), 7)
 
     def test_wrong_parties(self):
-        for party in (None, 0, "0", True, (4,), (-1,), (1, 0), (0, 0), (0, 1, 2, 3, 4), [0], {0: 0}, (False,), (0, True),
-                      (None,), ("0",), ((0,),), (0, 1, 2, 2)):
+        for party in (None, 0, "0", True, (4,), (-1,), (1, 0), (0, 0), (0, 1, 2, 3, 4), [0], {0: 0}, (False,),
+                      (0, True), (None,), ("0",), ((0,),), (0, 1, 2, 2)):
             self.assertRaises(errors.BadParty, gain_of, GROUND, WORTHS, OWNERS, party)
             self.assertRaises(errors.BadParty, own_pit, GROUND, WORTHS, OWNERS, party)
             self.assertRaises(errors.BadParty, bend, GROUND, WORTHS, OWNERS, party, ())

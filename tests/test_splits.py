@@ -90,10 +90,9 @@ class SplitsTest(unittest.TestCase):
 
     def test_owners_without_blocks(self):
         self.assertEqual(all_splits(GROUND, WORTHS, (2,) * 4), [(0, 0, 7, 0)])
-        self.assertEqual((least_share(GROUND, WORTHS, (2,) * 4, 2), greatest_share(GROUND, WORTHS, (2,) * 4, 2)), (7, 7))
-        for owner in (0, 1, 3):
-            self.assertEqual(least_share(GROUND, WORTHS, (2,) * 4, owner), 0)
-            self.assertEqual(greatest_share(GROUND, WORTHS, (2,) * 4, owner), 0)
+        for owner, share in ((0, 0), (1, 0), (2, 7), (3, 0)):
+            self.assertEqual(least_share(GROUND, WORTHS, (2,) * 4, owner), share)
+            self.assertEqual(greatest_share(GROUND, WORTHS, (2,) * 4, owner), share)
         self.assertEqual(by_order(GROUND, WORTHS, (2,) * 4, (3, 2, 1, 0)), (0, 0, 7, 0))
 
     def test_the_smaller_blocker_then_the_least(self):
@@ -103,7 +102,8 @@ class SplitsTest(unittest.TestCase):
                             ((9, -1, -1, 0), (1,)), ((1, 1, 5, 0), (0, 1)), ((2, 0, 5, 0), (0, 1))):
             self.assertEqual(blocker(GROUND, WORTHS, OWNERS, split), told, split)
             self.assertIs(holds_for(GROUND, WORTHS, OWNERS, split), told is None)
-        self.assertEqual([gain_of(GROUND, WORTHS, OWNERS, party) for party in ((0, 1), (0, 2), (1, 2), ALL)], [3, 1, 0, 7])
+        for party, gain in (((0, 1), 3), ((0, 2), 1), ((1, 2), 0), (ALL, 7)):
+            self.assertEqual(gain_of(GROUND, WORTHS, OWNERS, party), gain)
 
     def test_a_blocker_of_three(self):
         # Three owners alone have something together, whoever of them is left out.
@@ -159,7 +159,8 @@ class SplitsTest(unittest.TestCase):
 
     def test_wrong_turns(self):
         for turns in (None, 0, "0123", (), (0, 1, 2), (0, 1, 2, 2), (0, 1, 2, 4), (-1, 0, 1, 2), (0, 1, 2, 3, 3),
-                      [0, 1, 2, 3], (0, True, 2, 3), (False, 1, 2, 3), (0, 1, 2, None), (0, 1, 2, "3"), {}, (3, 3, 3, 3)):
+                      [0, 1, 2, 3], (0, True, 2, 3), (False, 1, 2, 3), (0, 1, 2, None), (0, 1, 2, "3"), {},
+                      (3, 3, 3, 3)):
             self.assertRaises(errors.BadOwnerRow, by_order, GROUND, WORTHS, OWNERS, turns)
             self.assertRaises(errors.BadOwners, by_order, GROUND, WORTHS, (0,), turns)
 
